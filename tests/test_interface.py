@@ -1,0 +1,82 @@
+"""Where the interface lists names, they are defined there with the told parameters."""
+
+import importlib
+import inspect
+import unittest
+
+LISTED = {
+    "primes": ["is_prime(n)", "need_prime(p)", "inverse(p, a)", "choose(n, k)"],
+    "forms": [
+        "is_name(text)", "is_old(text)", "is_dated(text)", "old_name(name)", "dated_name(name, date)",
+        "plain_name(name)", "make_form(p, pairs)", "unit(name)", "plus(p, f, g)", "minus(p, f, g)",
+        "times(p, f, *, by)", "normal(p, f)", "form_names(f)", "value(p, f, world)", "renamed(p, f, table)",
+        "show_form(f)", "read_form(p, text)",
+    ],
+    "ways": [
+        "agreeing(p, names, told)", "value_counts(p, names, told, f)", "one_world(p, names, told)",
+        "moved_world(p, world, shift, *, by=1)",
+    ],
+    "formulas": [
+        "gate(k, *places)", "check_formula(formula)", "read_formula(text)", "show_formula(formula)",
+        "fits(formula, lot)", "formula_names(formula)",
+    ],
+    "lots": ["dual(formula)", "least_lots(formula)", "unfit_lots(formula)", "least_of(lots)", "formula_of_lots(lots)"],
+    "rows": [
+        "formula_rows(p, formula, *, secret='s', prefix='s')", "lots_rows(p, formula, *, secret='s', prefix='s')",
+        "rows_of(rows, lot)",
+    ],
+    "deals": [
+        "deal(p, rows, world)", "join(p, rows, told, *, secret='s')", "join_weights(p, rows, lot, *, secret='s')",
+        "hidden(p, rows, lot, *, secret='s')", "secret_counts(p, rows, masks, told, *, secret='s')",
+    ],
+    "renewed": [
+        "difference_rows(p, rows, masks)", "dates_space(p, rows, masks, lots, *, heard=())",
+        "cut_paper(p, rows, masks, lots, *, heard=(), secret='s')",
+        "is_cut_paper(p, rows, masks, lots, shift, *, heard=(), secret='s')",
+    ],
+    "chains": [
+        "check_table(p, table, which)", "chain(p, up, start, length)",
+        "stretch(p, up, down, *, password, salt, length)",
+    ],
+    "pebbles": [
+        "least_steps(length, cells)", "rounds(length, cells)", "best_stop(length, cells)", "move_list(length, cells)",
+        "check_moves(length, cells, moves)", "run_moves(p, up, down, moves, *, start, length, cells)",
+    ],
+}
+
+
+class Interface(unittest.TestCase):
+    def test_functions_are_defined_in_their_files_with_their_parameters(self):
+        for module, entries in LISTED.items():
+            full = f"holdingsshut.{module}"
+            for entry in entries:
+                name, told = entry.split("(", 1)
+                function = getattr(importlib.import_module(full), name)
+                self.assertEqual(function.__module__, full, entry)
+                self.assertEqual(str(inspect.signature(function)), "(" + told)
+
+    def test_space(self):
+        from holdingsshut.spaces import Space
+
+        self.assertEqual(Space.__module__, "holdingsshut.spaces")
+        told = {
+            "add": "(self, f)", "reduce": "(self, f)", "blind": "(self, f)", "accepted": "(self)", "mix": "(self, f)",
+            "within": "(self, names)", "clone": "(self)",
+        }
+        for name, parameters in told.items():
+            self.assertEqual(str(inspect.signature(vars(Space)[name])), parameters)
+        self.assertEqual(str(inspect.signature(Space)), "(p)")
+        self.assertEqual(str(inspect.signature(Space.over)), "(p, forms)")
+        self.assertIsInstance(vars(Space)["over"], classmethod)
+        self.assertIsInstance(vars(Space)["rank"], property)
+
+    def test_the_package_holds_a_docstring_alone(self):
+        package = importlib.import_module("holdingsshut")
+        with open(package.__file__, encoding="ascii") as file:
+            text = file.read()
+        self.assertTrue(package.__doc__)
+        self.assertEqual(text, f'"""{package.__doc__}"""\n')
+
+
+if __name__ == "__main__":
+    unittest.main()

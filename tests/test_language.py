@@ -1,0 +1,100 @@
+"""The rules of the language subset that can be seen in one file at a time."""
+
+import ast
+import pathlib
+import unittest
+
+PACKAGE = pathlib.Path(__file__).resolve().parent.parent / "holdingsshut"
+FILES = sorted(PACKAGE.glob("*.py"))
+BUILTINS = set(
+    "len range enumerate zip min max sum abs sorted reversed int str bool list tuple dict set isinstance ord repr any all "
+    "divmod iter super ValueError TypeError KeyError IndexError property classmethod staticmethod".split()
+)
+METHODS = set(
+    "append clear copy count endswith extend find get index insert isalnum isalpha isdigit islower isspace isupper items "
+    "join keys ljust lower lstrip partition pop remove replace reverse rfind rjust rpartition rsplit rstrip setdefault "
+    "split splitlines startswith strip update upper values zfill bit_length".split()
+)
+SPECIAL_METHODS = {"__init__", "__contains__", "__iter__", "__call__"}
+BARRED_NODES = (ast.AsyncFunctionDef, ast.AsyncFor, ast.AsyncWith, ast.Await, ast.Div, ast.Import)
+
+
+def trees():
+    for path in FILES:
+        yield path, ast.parse(path.read_text(encoding="ascii"))
+
+
+def docstrings(tree):
+    """The nodes of docstrings."""
+    for node in ast.walk(tree):
+        if isinstance(node, (ast.Module, ast.ClassDef, ast.FunctionDef)) and ast.get_docstring(node) is not None:
+            yield node.body[0].value
+
+
+class Language(unittest.TestCase):
+    def test_the_folder_holds_python_files_alone(self):
+        names = [path.name for path in PACKAGE.iterdir() if path.name != "__pycache__"]
+        self.assertEqual(sorted(names), [path.name for path in FILES])
+        self.assertIn("__init__.py", names)
+
+    def test_sizes(self):
+        for path, tree in trees():
+            lines = path.read_text(encoding="ascii").splitlines()
+            self.assertLessEqual(len(lines), 399, path.name)
+            for at, line in enumerate(lines):
+                self.assertLessEqual(len(line), 120, (path.name, at + 1))
+                self.assertTrue(line.isprintable(), (path.name, at + 1))
+            for node in ast.walk(tree):
+                if isinstance(node, ast.FunctionDef):
+                    self.assertLessEqual(node.end_lineno - node.lineno + 1, 40, (path.name, node.name))
+
+    def test_imports_come_from_the_package(self):
+        for path, tree in trees():
+            for node in tree.body:
+                if isinstance(node, ast.ImportFrom):
+                    self.assertTrue(node.module.startswith("holdingsshut."), path.name)
+                    self.assertEqual(node.level, 0)
+                    self.assertFalse([alias for alias in node.names if alias.asname or alias.name == "*"])
+
+    def test_statements(self):
+        for path, tree in trees():
+            for node in ast.walk(tree):
+                self.assertNotIsInstance(node, BARRED_NODES, (path.name, getattr(node, "lineno", 0)))
+                if isinstance(node, (ast.FunctionDef, ast.ClassDef)):
+                    decorators = [ast.unparse(one) for one in node.decorator_list]
+                    self.assertFalse(set(decorators) - {"property", "classmethod"}, path.name)
+                if isinstance(node, ast.FunctionDef) and node.name.startswith("__"):
+                    self.assertIn(node.name, SPECIAL_METHODS)
+
+    def test_names_and_methods(self):
+        own = {
+            node.name for _, tree in trees() for node in ast.walk(tree) if isinstance(node, (ast.FunctionDef, ast.ClassDef))
+        }
+        for path, tree in trees():
+            known = set(BUILTINS)
+            for node in ast.walk(tree):
+                if isinstance(node, ast.Name) and isinstance(node.ctx, ast.Store):
+                    known.add(node.id)
+                if isinstance(node, ast.arg):
+                    known.add(node.arg)
+                if isinstance(node, ast.alias):
+                    known.add(node.name)
+                if isinstance(node, (ast.FunctionDef, ast.ClassDef)):
+                    known.add(node.name)
+            for node in ast.walk(tree):
+                if isinstance(node, ast.Name):
+                    self.assertIn(node.id, known, (path.name, node.lineno))
+                if isinstance(node, ast.Call) and isinstance(node.func, ast.Attribute):
+                    self.assertIn(node.func.attr, METHODS | own | SPECIAL_METHODS, (path.name, node.lineno))
+
+    def test_texts(self):
+        for path, tree in trees():
+            docs = list(docstrings(tree))
+            for node in ast.walk(tree):
+                if isinstance(node, ast.Constant) and isinstance(node.value, str) and node not in docs:
+                    self.assertNotIn("%", node.value, (path.name, node.lineno))
+                self.assertFalse(isinstance(node, ast.Constant) and isinstance(node.value, float), path.name)
+
+
+if __name__ == "__main__":
+    unittest.main()
