@@ -7,7 +7,7 @@ LETTERS = "abcdefghijklmnopqrstuvwxyz"
 DIGITS = "0123456789"
 NAME_SIGNS = "abcdefghijklmnopqrstuvwxyz0123456789."
 MOST_SIGNS = 20
-MOST_PREFIX_SIGNS = 8
+MOST_SHORT_SIGNS = 8
 
 
 def is_name(text):
@@ -48,9 +48,14 @@ def need_plain(name):
         raise BadName(name)
 
 
+def is_short_name(text):
+    """True for a plain name that may be a prefix or a leaf; any value may be handed in."""
+    return is_name(text) and len(text) <= MOST_SHORT_SIGNS
+
+
 def need_prefix(prefix):
     """Raise BadName unless the value is a plain name that is short enough."""
-    if not is_name(prefix) or len(prefix) > MOST_PREFIX_SIGNS:
+    if not is_short_name(prefix):
         raise BadName(prefix)
 
 
@@ -58,6 +63,17 @@ def need_any_name(name):
     """Raise BadName unless the value is a name of any kind."""
     if not is_any_name(name):
         raise BadName(name)
+
+
+def first_repeated(values):
+    """The first text of the list that stood before in it, or None; other values don't count."""
+    seen = {}
+    for item in values:
+        if isinstance(item, str):
+            if item in seen:
+                return item
+            seen[item] = True
+    return None
 
 
 def old_name(name):
@@ -91,6 +107,20 @@ def plus_times(p, f, g, by):
     for name, number in g:
         totals[name] = totals.get(name, 0) + by * number
     return form_of(p, totals)
+
+
+def sum_of_mix(p, forms, mix):
+    """The sum of multiples of listed forms that a mix, pairs (index, integer), tells."""
+    totals = {}
+    for index, by in mix:
+        for name, number in forms[index]:
+            totals[name] = totals.get(name, 0) + by * number
+    return form_of(p, totals)
+
+
+def moved_by(p, f, moves):
+    """By how much a form moves if its names move as the dict tells; other names stay."""
+    return sum([number * moves.get(name, 0) for name, number in f]) % p
 
 
 def coefficient(f, name):

@@ -1,6 +1,6 @@
 """Sharings that are renewed at dates, and what old and new shares bring together."""
 
-from holdingsshut.forms import dated_name, minus, need_plain, old_name, renamed, unit
+from holdingsshut.forms import dated_name, minus, moved_by, need_plain, old_name, renamed, unit
 from holdingsshut.primes import need_prime
 from holdingsshut.rows import rows_of
 from holdingsshut.spaces import Space
@@ -31,15 +31,10 @@ def is_cut_paper(p, rows, masks, lots, shift, *, heard=(), secret="s"):
     need_prime(p)
     need_plain(secret)
     moves = dict(shift)
-    if _moved_by(p, unit(secret), moves) != 1:
+    if moved_by(p, unit(secret), moves) != 1:
         return False
     forms = _dated_forms(p, rows, masks, lots, heard)
-    return all(_moved_by(p, f, moves) == 0 for f in forms)
-
-
-def _moved_by(p, f, moves):
-    """By how much a form moves if its names move so; names without a move stay."""
-    return sum([number * moves.get(name, 0) for name, number in f]) % p
+    return all(moved_by(p, f, moves) == 0 for f in forms)
 
 
 def _dated_forms(p, rows, masks, lots, heard):

@@ -105,3 +105,36 @@ def random_formula(random, names, depth):
         return random.choice(names)
     places = tuple(random_formula(random, names, depth - 1) for _ in range(random.randint(1, 4)))
     return random.randint(1, len(places)), places
+
+
+def closure_plainly(p, forms, rules):
+    """All forms of the closure, and the numbers of the rules that were logged, as point [30] tells."""
+    known, log, fired = span(p, forms), [], set()
+    while True:
+        before = len(fired)
+        for at, (needs, gives) in enumerate(rules):
+            if at not in fired and all(need in known for need in needs):
+                fired.add(at)
+                if gives not in known:
+                    log.append(at)
+                    known = {sum_of(p, [(1, form), (by, gives)]) for form in known for by in range(p)}
+        if len(fired) == before:
+            return known, log
+
+
+def random_rules(chance, p, names, most, needs=3):
+    """Rules over a few of the names, some without needs and some that give nothing."""
+    return [
+        (tuple(random_form(chance, p, names, 2) for _ in range(chance.randint(0, needs))),
+         random_form(chance, p, names, 2))
+        for _ in range(chance.randint(0, most))
+    ]
+
+
+def random_tree(chance, names, depth):
+    """A tree of at most so many tuples one in another, whose leaves are names of the list."""
+    if len(names) == 1 or depth == 0:
+        return names[0]
+    cuts = sorted(chance.sample(range(1, len(names)), chance.randint(1, min(5, len(names) - 1))))
+    groups = [names[low:high] for low, high in zip([0] + cuts, cuts + [len(names)])]
+    return tuple(random_tree(chance, group, depth - 1) for group in groups)

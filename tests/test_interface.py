@@ -42,6 +42,25 @@ LISTED = {
         "least_steps(length, cells)", "rounds(length, cells)", "best_stop(length, cells)", "move_list(length, cells)",
         "check_moves(length, cells, moves)", "run_moves(p, up, down, moves, *, start, length, cells)",
     ],
+    "guesses": ["trial_steps(length, cells)", "guess_cost(locks, chosen, *, cells)"],
+    "trees": [
+        "check_tree(tree)", "leaves(tree)", "nodes(tree, *, prefix='t')", "above(tree, leaf, *, prefix='t')",
+        "tree_letters(tree, *, prefix='t')", "full_tree(height, names)",
+    ],
+    "covers": [
+        "clean_cover(tree, kept, *, prefix='t')", "is_clean_cover(tree, kept, keys, *, prefix='t')",
+        "mixed_nodes(tree, lost, *, prefix='t')", "renew_letters(tree, lost, *, prefix='t')",
+    ],
+    "leases": [
+        "time_slots(height, way, *, prefix='u')", "time_key(height, way, at, *, prefix='u')",
+        "lease_rules(height, way, *, prefix='u')", "lease_keys(height, way, first, last, *, prefix='u')",
+        "leased_times(height, way, leases)",
+    ],
+    "rules": ["close(p, rules)", "close_on(p, forms, rules)", "fire_log(p, rules)", "unmet(space, rules)"],
+    "papers": [
+        "find_paper(p, rules, goal)", "check_paper(p, rules, goal, steps, last)", "is_lean(steps, last)",
+        "blind_paper(p, rules, goal)", "check_blind(p, rules, goal, basis, shift)",
+    ],
 }
 
 
@@ -69,6 +88,14 @@ class Interface(unittest.TestCase):
         self.assertEqual(str(inspect.signature(Space.over)), "(p, forms)")
         self.assertIsInstance(vars(Space)["over"], classmethod)
         self.assertIsInstance(vars(Space)["rank"], property)
+
+    def test_trials(self):
+        from holdingsshut.guesses import Trials
+
+        self.assertEqual(Trials.__module__, "holdingsshut.guesses")
+        self.assertEqual(str(inspect.signature(Trials)), "(p, up, down, *, cells)")
+        self.assertEqual(str(inspect.signature(vars(Trials)["__call__"])), "(self, salt, length, candidate)")
+        self.assertIsInstance(vars(Trials)["steps"], property)
 
     def test_the_package_holds_a_docstring_alone(self):
         package = importlib.import_module("holdingsshut")

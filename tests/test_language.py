@@ -1,7 +1,9 @@
 """The rules of the language subset that can be seen in one file at a time."""
 
 import ast
+import builtins
 import pathlib
+import re
 import unittest
 
 PACKAGE = pathlib.Path(__file__).resolve().parent.parent / "holdingsshut"
@@ -17,6 +19,28 @@ METHODS = set(
 )
 SPECIAL_METHODS = {"__init__", "__contains__", "__iter__", "__call__"}
 BARRED_NODES = (ast.AsyncFunctionDef, ast.AsyncFor, ast.AsyncWith, ast.Await, ast.Div, ast.Import)
+
+
+ITERATED = {"zip", "enumerate", "reversed", "items", "keys", "values", "product", "combinations", "permutations"}
+TAKERS = {"list", "tuple", "dict", "sorted", "sum", "any", "all", "enumerate", "zip", "min", "max", "join"}
+BARRED_WORDS = re.compile(
+    r"\b(type|typing|enum|Enum|Flag|Generic|Protocol|ABC|namedtuple|mro|elements|open|input|law|register|exec|eval|compile|"
+    r"globals|locals|vars|dir|help|exit|quit|id|os|sys|gc)\b"
+)
+
+
+def called(node):
+    """The bare name of what a call calls, or None."""
+    if not isinstance(node, ast.Call):
+        return None
+    return node.func.id if isinstance(node.func, ast.Name) else getattr(node.func, "attr", None)
+
+
+def with_parents(tree):
+    """All nodes, each with the node around it."""
+    for parent in ast.walk(tree):
+        for node in ast.iter_child_nodes(parent):
+            yield node, parent
 
 
 def trees():
@@ -86,6 +110,37 @@ class Language(unittest.TestCase):
                     self.assertIn(node.id, known, (path.name, node.lineno))
                 if isinstance(node, ast.Call) and isinstance(node.func, ast.Attribute):
                     self.assertIn(node.func.attr, METHODS | own | SPECIAL_METHODS, (path.name, node.lineno))
+
+    def test_no_name_means_two_things(self):
+        for path, tree in trees():
+            fixed = set()
+            for node in tree.body:
+                fixed |= {alias.name for alias in getattr(node, "names", [])}
+                fixed |= {node.name} if isinstance(node, ast.ClassDef) else set()
+            names = {node.id for node in ast.walk(tree) if isinstance(node, ast.Name) and isinstance(node.ctx, ast.Store)}
+            names |= {node.arg for node in ast.walk(tree) if isinstance(node, ast.arg)}
+            functions = {node.name for node in tree.body if isinstance(node, (ast.FunctionDef, ast.ClassDef))}
+            self.assertFalse(fixed & names, path.name)
+            self.assertFalse(functions & names, path.name)
+            self.assertFalse((names | functions) & set(dir(builtins)), path.name)
+
+    def test_sets_and_iterators_are_used_on_the_spot(self):
+        for path, tree in trees():
+            for node, parent in with_parents(tree):
+                place = (path.name, getattr(node, "lineno", 0))
+                around = called(parent) if isinstance(parent, ast.Call) and node in parent.args else None
+                if called(node) == "set" or isinstance(node, (ast.Set, ast.SetComp)):
+                    self.assertTrue(around in ("sorted", "len") or isinstance(parent, ast.Compare), place)
+                if called(node) in ITERATED or isinstance(node, ast.GeneratorExp):
+                    looped = isinstance(parent, (ast.For, ast.comprehension)) and parent.iter is node
+                    self.assertTrue(looped or around in TAKERS, place)
+
+    def test_words_that_are_barred(self):
+        for path, tree in trees():
+            for node in ast.walk(tree):
+                for kind in ["id", "attr", "arg", "name"]:
+                    name = getattr(node, kind, None)
+                    self.assertIsNone(BARRED_WORDS.search(name or ""), (path.name, name))
 
     def test_texts(self):
         for path, tree in trees():

@@ -1,0 +1,49 @@
+"""Rules: what opens under them, and the order in which they fire."""
+
+from holdingsshut.spaces import Space
+
+
+def close(p, rules):
+    """The closure of no forms; its accepted forms are what the logged rules give."""
+    return close_on(p, [], rules)
+
+
+def close_on(p, forms, rules):
+    """The closure of a list of forms."""
+    space = Space.over(p, forms)
+    fire(space, rules)
+    return space
+
+
+def fire_log(p, rules):
+    """The numbers of the logged rules, in the order in which they fired."""
+    return fire(Space(p), rules)
+
+
+def fire(space, rules):
+    """Close the space under the rules; the numbers of the logged rules, as they fired."""
+    log = []
+    waiting = list(range(len(rules)))
+    fires = True
+    while fires:
+        fires = False
+        unfired = []
+        for at in waiting:
+            needs, gives = rules[at]
+            if not _are_met(space, needs):
+                unfired.append(at)
+                continue
+            fires = True
+            if space.add(gives):
+                log.append(at)
+        waiting = unfired
+    return log
+
+
+def _are_met(space, needs):
+    return all(need in space for need in needs)
+
+
+def unmet(space, rules):
+    """The numbers of the rules all of whose needs the space has and whose gives it lacks."""
+    return [at for at, (needs, gives) in enumerate(rules) if _are_met(space, needs) and gives not in space]
