@@ -24,6 +24,13 @@ def check_formula(formula):
     return formula
 
 
+def check_formula_or_none(formula):
+    """Return the formula or None, or raise BadGate."""
+    if formula is None:
+        return None
+    return check_formula(formula)
+
+
 def _check_part(part, around):
     """Raise BadGate for the first bad part, inside so many gates, from here on."""
     if is_name(part):
@@ -72,6 +79,11 @@ def formula_names(formula):
 def fits(formula, lot):
     """True if the lot, a list of names, fits the formula."""
     check_formula(formula)
+    return fits_checked(formula, lot)
+
+
+def fits_checked(formula, lot):
+    """As `fits`, for a formula that was checked before."""
     return _fits_part(formula, {name: True for name in lot})
 
 

@@ -31,6 +31,15 @@ def guess_cost(locks, chosen, *, cells):
     return sum([len(set(tried[pair])) * trial_steps(pair[1], cells) for pair in tried])
 
 
+def ordered_lock_sets(locks, cells):
+    """The pairs (cost, lot of slots) of all sets of the locks: by cost, then by count, then as tuples."""
+    lots = [()]
+    for slot in sorted([lock[0] for lock in locks]):
+        lots = lots + [lot + (slot,) for lot in lots]
+    places = [(guess_cost(locks, lot, cells=cells), len(lot), lot) for lot in lots]
+    return [(cost, lot) for cost, _, lot in sorted(places)]
+
+
 class Trials:
     """Trials on two tables, called as trials(salt, length, candidate)."""
 

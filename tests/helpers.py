@@ -138,3 +138,25 @@ def random_tree(chance, names, depth):
     cuts = sorted(chance.sample(range(1, len(names)), chance.randint(1, min(5, len(names) - 1))))
     groups = [names[low:high] for low, high in zip([0] + cuts, cuts + [len(names)])]
     return tuple(random_tree(chance, group, depth - 1) for group in groups)
+
+
+def subspaces(p, names):
+    """For each space over the names: a list of forms that spans it."""
+    forms = list(all_forms(p, names))
+    found = {frozenset([()]): []}
+    level = dict(found)
+    while level:
+        more = {}
+        for space, spanning in level.items():
+            for form in forms:
+                if form not in space:
+                    wider = frozenset(sum_of(p, [(1, old), (by, form)]) for old in space for by in range(p))
+                    if wider not in found:
+                        found[wider] = more[wider] = spanning + [form]
+        level = more
+    return list(found.values())
+
+
+def forms_within(p, names, space):
+    """The set of the forms over the names that the space has."""
+    return {form for form in all_forms(p, names) if form in space}

@@ -61,6 +61,25 @@ LISTED = {
         "find_paper(p, rules, goal)", "check_paper(p, rules, goal, steps, last)", "is_lean(steps, last)",
         "blind_paper(p, rules, goal)", "check_blind(p, rules, goal, basis, shift)",
     ],
+    "holds": [
+        "covers(big, small)", "alike(first, second)", "extended(hold, forms, rules)", "renamed_hold(hold, table)",
+    ],
+    "fading": ["fade(hold, name)", "fade_all(hold, names)"],
+    "kits": [
+        "key_slot(device)", "out_mark(device)", "any_of(*names)", "barred_by(names, formula)", "marks_formula(formula)",
+        "take_deed(device, drawer, *, unless=None)", "row_letters(rows, *, heard=True)",
+        "rule_letters(rules, *, heard=True)",
+    ],
+    "houses": [
+        "mend_house(p, devices, formula, *, road=None, guard=None, keys_new=True, masks_new=True, secret_new=False)",
+        "refresh_house(p, devices, formula, *, road=None, quiet=True, strict=True)", "tree_house(p, tree, *, kept=())",
+        "lease_house(p, height, way, leases)", "lock_house(p, devices, formula, locks)",
+    ],
+    "models": [
+        "lot_model(devices, formula, *, road=None, guard=None, keys_new=True, masks_new=True, secret_new=False)",
+        "refresh_model(devices, formula, *, road=None, quiet=True, strict=True)", "tree_model(tree, *, kept=())",
+        "lease_model(height, way, leases)", "lock_model(devices, formula, locks, *, cells)",
+    ],
 }
 
 
@@ -96,6 +115,26 @@ class Interface(unittest.TestCase):
         self.assertEqual(str(inspect.signature(Trials)), "(p, up, down, *, cells)")
         self.assertEqual(str(inspect.signature(vars(Trials)["__call__"])), "(self, salt, length, candidate)")
         self.assertIsInstance(vars(Trials)["steps"], property)
+
+    def check_class(self, module, name, signature, methods, properties):
+        made = getattr(importlib.import_module(f"holdingsshut.{module}"), name)
+        self.assertEqual(made.__module__, f"holdingsshut.{module}")
+        self.assertEqual(str(inspect.signature(made)), signature)
+        for method, parameters in methods.items():
+            self.assertEqual(str(inspect.signature(vars(made)[method])), parameters)
+        for listed in properties:
+            self.assertIsInstance(vars(made)[listed], property)
+
+    def test_hold(self):
+        methods = {"reach": "(self, forms)", "__contains__": "(self, f)", "entails": "(self, needs, gives)"}
+        self.check_class("holds", "Hold", "(p, forms, rules)", methods, ["hold_names"])
+
+    def test_deed_and_plan(self):
+        told = "(name, *, when=None, unless=None, sets=(), clears=(), renews=(), letters=(), tells=(), hands=())"
+        self.check_class("plans", "Deed", told, {}, [])
+        told = "(p, *, start, marks=(), devices=(), locks=(), standing=(), roads=(), promises=(), deeds=())"
+        methods = {"__iter__": "(self)", "deed_named": "(self, deed_name)"}
+        self.check_class("plans", "Plan", told, methods, ["slots", "secrets"])
 
     def test_the_package_holds_a_docstring_alone(self):
         package = importlib.import_module("holdingsshut")
