@@ -1,10 +1,10 @@
 """Kits: the names, formulas, deeds and letters that houses are built from."""
 
-from holdingsshut.errors import Stranger, TwiceNamed, UnknownName
+from holdingsshut.errors import TwiceNamed, UnknownName
 from holdingsshut.forms import unit
 from holdingsshut.formulas import check_formula, check_formula_or_none
 from holdingsshut.plans import Deed
-from holdingsshut.trees import above, leaves
+from holdingsshut.trees import above
 
 SECRET = "s"
 
@@ -75,17 +75,15 @@ def rule_letters(rules, *, heard=True):
 
 
 def mended_slots(tree, device):
-    """What a tree house renews for a device of which nothing is kept."""
+    """What a tree house renews for a leaf of which nothing is kept; Stranger if it is none."""
     return [key_slot(device)] + above(tree, device) + [SECRET]
 
 
 def need_kept(tree, kept):
     """Raise the refusal of the first bad pair (device, slot) of what a tree house keeps."""
-    devices = leaves(tree)
     seen = []
     for device, slot in kept:
-        if device not in devices:
-            raise Stranger(device)
+        # A device that is no leaf never stands before, and it has no slots: it is a Stranger.
         if device in seen:
             raise TwiceNamed(device)
         if slot not in mended_slots(tree, device):

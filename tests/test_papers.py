@@ -187,6 +187,10 @@ class CheckingPapers(unittest.TestCase):
             self.refuse(2, self.put(2, (2, (((number, 1),),))))
         for number in [4, 5, -1, BIG] + NO_INTEGERS:
             self.refuse(4, self.steps, ((number, 1),), A)
+        # Counted from the end, these numbers would lead to the right forms.
+        self.refuse(1, ((0, ()), (2, (((-1, 1),),))), ((1, 1),), C)
+        self.refuse(2, ((1, ()), (0, ())), ((-1, 1),), A)
+        self.refuse(2, ((1, ()), (0, ())), ((-2, 1), (1, 1)), (("a", 1), ("b", 1)))
         # A step does not stand in its own mixes, and later steps do not either.
         twice = ((0, ()), (2, (((1, 1),),)))
         check_raises(self, BadStep, {"at": 1}, lambda: check_paper(7, [((), A), ((), A), ((A,), A)], A, twice, ((1, 1),)))
@@ -196,7 +200,10 @@ class CheckingPapers(unittest.TestCase):
             self.refuse(2, self.put(2, (2, (((0, by),),))))
             self.refuse(3, self.put(3, (3, (((2, 1),), ((0, 2), (1, by))))))
             self.refuse(4, self.steps, ((0, by), (3, 5)))
-        self.refuse(1, ((0, ()), (4, (((0, 7),),))), ((1, 1),), D)
+        # Here the sums are right all the same.
+        for by in [0, 7, -7, 14]:
+            self.refuse(1, ((0, ()), (4, (((0, by),),))), ((1, 1),), D)
+            self.refuse(2, ((0, ()), (1, ())), ((0, 1), (1, by)), A)
 
     def test_wrong_sums(self):
         for by in [2, 3, 4, 5, 6]:
