@@ -1,8 +1,9 @@
 """Fading: holds that forget a number, and nothing that can be had without it."""
 
 from holdingsshut.forms import coefficient, plus_times, times
-from holdingsshut.holds import Hold, box_names
+from holdingsshut.holds import Hold
 from holdingsshut.primes import inverse
+from holdingsshut.rules import rule_names
 
 
 def fade(hold, name):
@@ -34,7 +35,7 @@ def _fade_known(hold, name, row):
 def _fade_unknown(hold, name):
     """Join each box that gives the name and needs it not with each that names it."""
     p = hold.p
-    naming = [box for box in hold.boxes if name in box_names(box)]
+    naming = [box for box in hold.boxes if name in rule_names(box)]
     joints = []
     for needs, gives in naming:
         if not any([coefficient(need, name) for need in needs]):

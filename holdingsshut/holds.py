@@ -1,8 +1,8 @@
 """Holds: what somebody has, that is, a closed space and the boxes that are not yet open."""
 
-from holdingsshut.forms import form_names, normal, renamed
+from holdingsshut.forms import normal, renamed
 from holdingsshut.formulas import lot_of
-from holdingsshut.rules import close_on, fire
+from holdingsshut.rules import close_on, fire, names_in, renamed_rule, rule_names
 from holdingsshut.spaces import Space
 
 
@@ -22,7 +22,7 @@ class Hold:
     @property
     def hold_names(self):
         """The ascending tuple of the names in the basis and in the boxes."""
-        return lot_of(names_in(self.basis) + [name for box in self.boxes for name in box_names(box)])
+        return lot_of(names_in(self.basis) + [name for box in self.boxes for name in rule_names(box)])
 
     def reach(self, forms):
         """The closure of the basis and the forms under the boxes."""
@@ -41,17 +41,6 @@ class Hold:
         other = Hold(self.p, self.basis, [])
         other.boxes = _boxes(self._space, sound, rules)
         return other
-
-
-def names_in(forms):
-    """The names of the forms, one after the other."""
-    return [name for f in forms for name in form_names(f)]
-
-
-def box_names(box):
-    """The names of what a rule needs, then of what it gives."""
-    needs, gives = box
-    return names_in(needs + (gives,))
 
 
 def _reach_on(space, forms, rules):
@@ -119,7 +108,5 @@ def renamed_hold(hold, table):
     """The hold with names replaced as the dict tells; no two names meet."""
     p = hold.p
     forms = [renamed(p, f, table) for f in hold.basis]
-    boxes = [
-        (tuple([renamed(p, need, table) for need in needs]), renamed(p, gives, table)) for needs, gives in hold.boxes
-    ]
+    boxes = [renamed_rule(p, box, table) for box in hold.boxes]
     return Hold(p, forms, []).with_boxes(boxes, [])

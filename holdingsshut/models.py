@@ -105,15 +105,16 @@ def _mended(formula, forgets, secret_new, state):
 def _first_theft(moves):
     """The first of the shortest courses to a state that is known and not spent, or None."""
     courses = {FIRST_STATE: ()}
-    level = [FIRST_STATE]
-    while level:
-        reached = []
-        for state in level:
-            for name, after in moves(state):
-                if after not in courses:
-                    courses[after] = courses[state] + (name,)
-                    if after[3] and not after[4]:
-                        return courses[after]
-                    reached.append(after)
-        level = reached
+    reached = [FIRST_STATE]
+    at = 0
+    # States are reached in the order of their courses, shorter ones first.
+    while at < len(reached):
+        state = reached[at]
+        for name, after in moves(state):
+            if after not in courses:
+                courses[after] = courses[state] + (name,)
+                if after[3] and not after[4]:
+                    return courses[after]
+                reached.append(after)
+        at += 1
     return None

@@ -1,5 +1,6 @@
 """Rules: what opens under them, and the order in which they fire."""
 
+from holdingsshut.forms import form_names, renamed
 from holdingsshut.spaces import Space
 
 
@@ -28,7 +29,7 @@ def fire(space, rules):
     while fires:
         fires = False
         unfired = []
-        for at in waiting:
+        for at in list(waiting):
             needs, gives = rules[at]
             if not _are_met(space, needs):
                 unfired.append(at)
@@ -47,3 +48,20 @@ def _are_met(space, needs):
 def unmet(space, rules):
     """The numbers of the rules all of whose needs the space has and whose gives it lacks."""
     return [at for at, (needs, gives) in enumerate(rules) if _are_met(space, needs) and gives not in space]
+
+
+def names_in(forms):
+    """The names of the forms, one after the other."""
+    return [name for f in forms for name in form_names(f)]
+
+
+def rule_names(rule):
+    """The names of what a rule needs, then of what it gives."""
+    needs, gives = rule
+    return names_in(needs) + names_in([gives])
+
+
+def renamed_rule(p, rule, table):
+    """The rule with all names that the dict has replaced at once."""
+    needs, gives = rule
+    return tuple([renamed(p, need, table) for need in needs]), renamed(p, gives, table)

@@ -17,6 +17,7 @@ METHODS = set(
     "join keys ljust lower lstrip partition pop remove replace reverse rfind rjust rpartition rsplit rstrip setdefault "
     "split splitlines startswith strip update upper values zfill bit_length".split()
 )
+CHANGES = set("append extend insert pop remove clear update setdefault reverse sort add".split())
 SPECIAL_METHODS = {"__init__", "__contains__", "__iter__", "__call__"}
 BARRED_NODES = (ast.AsyncFunctionDef, ast.AsyncFor, ast.AsyncWith, ast.Await, ast.Div, ast.Import)
 
@@ -53,6 +54,33 @@ def docstrings(tree):
     for node in ast.walk(tree):
         if isinstance(node, (ast.Module, ast.ClassDef, ast.FunctionDef)) and ast.get_docstring(node) is not None:
             yield node.body[0].value
+
+
+def changed_names(loop):
+    """The names of what a loop changes in place."""
+    changed = set()
+    for node in ast.walk(loop):
+        if isinstance(node, ast.Call) and isinstance(node.func, ast.Attribute) and node.func.attr in CHANGES:
+            node = node.func
+        elif not (isinstance(node, ast.Subscript) and isinstance(node.ctx, (ast.Store, ast.Del))):
+            continue
+        while isinstance(node, (ast.Attribute, ast.Subscript)):
+            node = node.value
+        if isinstance(node, ast.Name):
+            changed.add(node.id)
+    return changed
+
+
+def same_lists(function, names):
+    """The names, and those that a plain assignment of the function makes another name of theirs."""
+    pairs = [
+        {target.id, node.value.id} for node in ast.walk(function) if isinstance(node, ast.Assign)
+        and isinstance(node.value, ast.Name) for target in node.targets if isinstance(target, ast.Name)
+    ]
+    for _ in pairs:
+        for pair in pairs:
+            names = names | pair if names & pair else names
+    return names
 
 
 class Language(unittest.TestCase):
@@ -134,6 +162,19 @@ class Language(unittest.TestCase):
                 if called(node) in ITERATED or isinstance(node, ast.GeneratorExp):
                     looped = isinstance(parent, (ast.For, ast.comprehension)) and parent.iter is node
                     self.assertTrue(looped or around in TAKERS, place)
+
+    def test_no_loop_changes_what_it_walks(self):
+        for path, tree in trees():
+            for function in ast.walk(tree):
+                if isinstance(function, ast.FunctionDef):
+                    for node in ast.walk(function):
+                        if isinstance(node, (ast.For, ast.comprehension)):
+                            walked = {name.id for name in ast.walk(node.iter) if isinstance(name, ast.Name)}
+                            if called(node.iter) in ("list", "tuple", "sorted"):
+                                walked = set()
+                            changed = changed_names(node)
+                            place = (path.name, node.iter.lineno)
+                            self.assertFalse(same_lists(function, walked) & same_lists(function, changed), place)
 
     def test_words_that_are_barred(self):
         for path, tree in trees():
