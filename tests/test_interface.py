@@ -80,6 +80,32 @@ LISTED = {
         "refresh_model(devices, formula, *, road=None, quiet=True, strict=True)", "tree_model(tree, *, kept=())",
         "lease_model(height, way, leases)", "lock_model(devices, formula, locks, *, cells)",
     ],
+    "courses": [
+        "allowed(plan, marks)", "marks_after(plan, marks, deed_name)", "spent_after(plan, marks, spent, deed_name)",
+        "replay(plan, course)",
+    ],
+    "sources": [
+        "sources(plan, course, *, guessed=())", "known(plan, course, *, guessed=())", "present_part(plan, course, *, guessed=())",
+    ],
+    "holdings": [
+        "first_hold(plan, *, guessed=())", "step_hold(plan, hold, deed_name, *, guessed=())",
+        "hold_behind(plan, course, *, guessed=())", "first_holding(plan, *, guessed=())",
+        "step_holding(plan, holding, deed_name, *, guessed=())", "holding_covers(plan, big, small)", "stolen(plan, holding)",
+        "survivors(plan, holdings, deed_name, *, guessed=())", "healed(plan, course, *, guessed=())",
+    ],
+    "search": [
+        "judge(plan, *, guessed=(), limit=200)", "heals(plan, deed_name, *, guessed=(), limit=200)", "lock_sets(plan, *, cells)",
+        "price(plan, *, cells, limit=200)",
+    ],
+    "boards": [
+        "first_board(plan)", "board_after(plan, board, deed_name)", "lot_rules(plan, board, lot)",
+        "keeping_rules(plan, board, deed_name, device)", "cut_off(plan, marks, board, deed_name)",
+        "promise_break(plan, marks, board)", "friends(plan, *, limit=200)",
+    ],
+    "checks": [
+        "check_shut(plan, holdings, *, guessed=())", "check_heals(plan, holdings, deed_name, *, guessed=())",
+        "check_theft(plan, course, secret, steps, last, *, guessed=())", "check_price(plan, answer, *, cells)",
+    ],
 }
 
 
