@@ -2,6 +2,7 @@
 
 from holdingsshut.chains import check_table
 from holdingsshut.errors import UnknownName
+from holdingsshut.lots import parts_of
 from holdingsshut.pebbles import least_steps, move_list, need_cells, run_moves
 from holdingsshut.primes import need_prime
 
@@ -33,10 +34,8 @@ def guess_cost(locks, chosen, *, cells):
 
 def ordered_lock_sets(locks, cells):
     """The pairs (cost, lot of slots) of all sets of the locks: by cost, then by count, then as tuples."""
-    lots = [()]
-    for slot in sorted([lock[0] for lock in locks]):
-        lots = lots + [lot + (slot,) for lot in lots]
-    places = [(guess_cost(locks, lot, cells=cells), len(lot), lot) for lot in lots]
+    lots = parts_of(sorted([lock[0] for lock in locks]))
+    places = [(guess_cost(locks, lot, cells=cells), at, lot) for at, lot in enumerate(lots)]
     return [(cost, lot) for cost, _, lot in sorted(places)]
 
 

@@ -93,6 +93,14 @@ def _number_of(lot, bits):
     return number
 
 
+def parts_of(items):
+    """All parts of an ascending list, as tuples, in the order of lists of lots."""
+    parts = [()]
+    for item in items:
+        parts = parts + [part + (item,) for part in parts]
+    return _ordered(parts)
+
+
 def formula_of_lots(lots):
     """A formula that fits exactly the lots that contain a lot of the list."""
     handed = tuple([lot_of(names) for names in lots])

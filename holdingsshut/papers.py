@@ -47,6 +47,12 @@ def _renumbered(mix, new):
 
 def check_paper(p, rules, goal, steps, last):
     """Return None, or raise BadStep for the first bad step of the paper."""
+    if sum_of_paper(p, rules, steps, last) != goal:
+        raise BadStep(len(steps))
+
+
+def sum_of_paper(p, rules, steps, last):
+    """The sum of the last mix; BadStep for the first bad step, or for a last mix that is none."""
     need_prime(p)
     given = []
     for at, (number, mixes) in enumerate(steps):
@@ -55,21 +61,22 @@ def check_paper(p, rules, goal, steps, last):
         needs, gives = rules[number]
         if len(mixes) != len(needs):
             raise BadStep(at)
-        if not all([_is_right(p, given, mix, need) for mix, need in zip(mixes, needs)]):
+        if not all([_is_mix(p, given, mix) and sum_of_mix(p, given, mix) == need for mix, need in zip(mixes, needs)]):
             raise BadStep(at)
         given.append(gives)
-    if not _is_right(p, given, last, goal):
+    if not _is_mix(p, given, last):
         raise BadStep(len(steps))
+    return sum_of_mix(p, given, last)
 
 
-def _is_right(p, given, mix, due):
-    """True if the value is a mix of the forms given so far and its sum is due."""
+def _is_mix(p, given, mix):
+    """True if the pairs are a mix of the forms given so far."""
     least = 0
     for number, by in mix:
         if not lies_within(number, least, len(given) - 1) or not lies_within(by, 1, p - 1):
             return False
         least = number + 1
-    return sum_of_mix(p, given, mix) == due
+    return True
 
 
 def is_lean(steps, last):

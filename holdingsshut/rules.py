@@ -31,7 +31,7 @@ def fire(space, rules):
         unfired = []
         for at in list(waiting):
             needs, gives = rules[at]
-            if not _are_met(space, needs):
+            if not is_met(space, needs):
                 unfired.append(at)
                 continue
             fires = True
@@ -41,13 +41,14 @@ def fire(space, rules):
     return log
 
 
-def _are_met(space, needs):
+def is_met(space, needs):
+    """True if the space has all the needs."""
     return all(need in space for need in needs)
 
 
 def unmet(space, rules):
     """The numbers of the rules all of whose needs the space has and whose gives it lacks."""
-    return [at for at, (needs, gives) in enumerate(rules) if _are_met(space, needs) and gives not in space]
+    return [at for at, (needs, gives) in enumerate(rules) if is_met(space, needs) and gives not in space]
 
 
 def names_in(forms):

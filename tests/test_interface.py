@@ -106,6 +106,16 @@ LISTED = {
         "check_shut(plan, holdings, *, guessed=())", "check_heals(plan, holdings, deed_name, *, guessed=())",
         "check_theft(plan, course, secret, steps, last, *, guessed=())", "check_price(plan, answer, *, cells)",
     ],
+    "boardchecks": ["check_open(plan, pairs)", "check_break(plan, answer)"],
+    "sealing": ["seal(tables, keys, body)", "unseal(tables, keys, box)"],
+    "thief": ["rob(machine, steps, last, *, guessed=(), cells)", "friend_number(machine, lot, slot)"],
+    "audit": [
+        "audit(plan, course, *, guessed=())", "tell_times(plan, course)", "blames(plan, course, secret, *, guessed=())",
+        "proof(plan, course, f, *, guessed=())", "check_proof(plan, course, f, proof, *, guessed=())",
+        "exposed(plan, course, *, guessed=())", "reading_counts(machine, f)",
+    ],
+    "sheets": ["show_plan(plan)", "read_plan(text)"],
+    "desk": ["answer(sheet, questions)"],
 }
 
 
@@ -161,6 +171,16 @@ class Interface(unittest.TestCase):
         told = "(p, *, start, marks=(), devices=(), locks=(), standing=(), roads=(), promises=(), deeds=())"
         methods = {"__iter__": "(self)", "deed_named": "(self, deed_name)"}
         self.check_class("plans", "Plan", told, methods, ["slots", "secrets"])
+
+    def test_tables_and_machine(self):
+        from holdingsshut.sealing import Tables
+
+        self.check_class("sealing", "Tables", "(p, *, up, down, pads, tags)", {}, [])
+        self.assertIsInstance(vars(Tables)["plain"], classmethod)
+        self.assertEqual(str(inspect.signature(Tables.plain)), "(p)")
+        methods = {"do": "(self, name)", "number_of": "(self, slot)", "dated_world": "(self)", "record": "(self)", "posted": "(self)"}
+        properties = ["marks_now", "spent_now", "course_done", "draws_left"]
+        self.check_class("machine", "Machine", "(plan, tables, draws)", methods, properties)
 
     def test_the_package_holds_a_docstring_alone(self):
         package = importlib.import_module("holdingsshut")
