@@ -3,7 +3,7 @@
 from holdingsshut.courses import allowed, first_marks, is_asked, marks_after, marks_behind
 from holdingsshut.errors import Stranger, TooMany
 from holdingsshut.forms import is_old, old_name, unit
-from holdingsshut.formulas import fits_checked, formula_names, lot_of
+from holdingsshut.formulas import formula_names, lot_of
 from holdingsshut.lots import least_lots, unfit_lots
 from holdingsshut.papers import blind_paper, find_paper
 from holdingsshut.rules import close, fire, renamed_rule, rule_names
@@ -82,8 +82,8 @@ def _keeping(plan, board, deed, drawer):
 
 
 def is_out(device, marks):
-    """True if the device's out mark is set."""
-    return device[2] is not None and device[2] in marks
+    """True if the device has an out mark that is set."""
+    return device[2] in marks
 
 
 def cut_off(plan, marks, board, deed_name):

@@ -6,7 +6,6 @@ from holdingsshut.forms import unit
 from holdingsshut.guesses import guess_cost, need_lock_slots, ordered_lock_sets
 from holdingsshut.holdings import first_hold, first_state, is_survivor, state_covers, state_of, stepped_state, stolen_of
 from holdingsshut.papers import check_paper
-from holdingsshut.pebbles import need_cells
 from holdingsshut.primes import is_whole
 from holdingsshut.rules import names_in, rule_names
 from holdingsshut.sources import present_table, source_rules
@@ -85,12 +84,11 @@ def check_theft(plan, course, secret, steps, last, *, guessed=()):
 
 def check_price(plan, answer, *, cells):
     """Return None, or raise the first fault of the answer that tells a price or that there is none."""
-    need_cells(cells)
     sets = ordered_lock_sets(plan.locks, cells)
     if answer[0] == "price":
         _, cost, locks, theft, shuts = answer
-        need_lock_slots(plan.locks, locks)
-        if not is_whole(cost) or cost != guess_cost(plan.locks, locks, cells=cells):
+        due = guess_cost(plan.locks, locks, cells=cells)
+        if not is_whole(cost) or cost != due:
             raise NotPrice("cost")
         _, course, secret, steps, last = theft
         check_theft(plan, course, secret, steps, last, guessed=locks)

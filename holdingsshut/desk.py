@@ -88,11 +88,11 @@ def _behind_colon(line, words):
     return _joined([f"{line}:"] + list(words))
 
 
-def _or_none(word, items, between):
-    """The word and the items; the word and `none` if there are none."""
-    if not items:
+def _or_none(word, text):
+    """The word and the text; the word and `none` if the text is empty."""
+    if text == "":
         return f"{word} none"
-    return word + " " + between.join(items)
+    return f"{word} {text}"
 
 
 def _judge_lines(plan, told):
@@ -146,15 +146,15 @@ def _blame_lines(plan, told):
     found = blames(plan, told[1:], told[0])
     if found == [()]:
         return ["blame always"]
-    return [_or_none("blame", [_joined([str(time) for time in blame]) for blame in found], "; ")]
+    return [_or_none("blame", "; ".join([_joined([str(time) for time in blame]) for blame in found]))]
 
 
 def _exposed_lines(plan, told):
-    return [_or_none("exposed", exposed(plan, told), " ")]
+    return [_or_none("exposed", _joined(exposed(plan, told)))]
 
 
 def _present_lines(plan, told):
-    return [_or_none("present", [show_form(f) for f in present_part(plan, told)], ", ")]
+    return [_or_none("present", ", ".join([show_form(f) for f in present_part(plan, told)]))]
 
 
 def _steps_lines(_, told):

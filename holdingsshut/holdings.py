@@ -89,7 +89,6 @@ def is_survivor(plan, first, state, deed, guessed):
 
 def first_holding(plan, *, guessed=()):
     """The holding right after the start."""
-    need_lock_slots(plan.locks, guessed)
     return holding_of(first_state(plan, guessed))
 
 

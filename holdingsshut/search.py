@@ -3,10 +3,8 @@
 from holdingsshut.courses import allowed_deeds
 from holdingsshut.errors import TooMany
 from holdingsshut.forms import unit
-from holdingsshut.guesses import need_lock_slots, ordered_lock_sets
-from holdingsshut.holdings import (
-    first_hold, first_state, holding_of, state_covers, stepped_state, stolen_of,
-)
+from holdingsshut.guesses import ordered_lock_sets
+from holdingsshut.holdings import first_hold, first_state, holding_of, state_covers, stepped_state, stolen_of
 from holdingsshut.holds import covers
 from holdingsshut.papers import find_paper
 from holdingsshut.sources import present_table, source_rules
@@ -14,7 +12,6 @@ from holdingsshut.sources import present_table, source_rules
 
 def judge(plan, *, guessed=(), limit=200):
     """A shut list, or the first shortest theft with its paper."""
-    need_lock_slots(plan.locks, guessed)
 
     def is_theft(state, _):
         return stolen_of(plan, state) is not None

@@ -31,6 +31,19 @@ def check_raises(case, error, told, call):
     case.fail(f"{error.__name__} was not raised, but {answer!r} returned")
 
 
+def paper_fault(call, names):
+    """The attributes of the fault that a checker of papers raises; None if it raises nothing."""
+    from holdingsshut.errors import PaperError
+
+    try:
+        answer = call()
+    except PaperError as caught:
+        return tuple(getattr(caught, name) for name in names)
+    if answer is not None:
+        raise AssertionError(answer)
+    return None
+
+
 def check_bad_primes(case, call):
     """The call of a prime refuses each value that is none."""
     from holdingsshut.errors import BadPrime

@@ -6,12 +6,12 @@ import unittest
 from holdingsshut.boardchecks import check_break, check_open
 from holdingsshut.boards import board_after, cut_off, first_board, friends, keeping_rules, lot_rules, promise_break
 from holdingsshut.courses import allowed, marks_after
-from holdingsshut.errors import BadBlind, BadStep, Barred, NoDeed, NotOpen, PaperError
+from holdingsshut.errors import BadBlind, BadStep, Barred, NoDeed, NotOpen
 from holdingsshut.houses import lease_house, mend_house, refresh_house, tree_house
 from holdingsshut.papers import blind_paper, find_paper
 from holdingsshut.plans import Deed, Plan
 from holdingsshut.rules import close
-from tests.helpers import check_raises
+from tests.helpers import check_raises, paper_fault
 from tests.test_courses import NO_DEEDS
 from tests.test_papers import NO_INTEGERS
 from tests.tinyplans import tiny_plan
@@ -25,14 +25,7 @@ def e(name):
 
 
 def fault(call):
-    """What the checker raises, told as a tuple; None if it raises nothing."""
-    try:
-        answer = call()
-    except PaperError as caught:
-        return tuple(getattr(caught, name) for name in ["word", "kind", "at", "name"])
-    if answer is not None:
-        raise AssertionError(answer)
-    return None
+    return paper_fault(call, ["word", "kind", "at", "name"])
 
 
 def fault_plainly(plan, pairs):

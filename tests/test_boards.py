@@ -266,6 +266,13 @@ class Promises(unittest.TestCase):
         self.assertEqual(promise_break(self.plan("a"), [], [rule("s", "a"), rule("s", "c")]), (0, "over", ("b", "c")))
         self.assertEqual(promise_break(self.plan("a"), ["m"], [rule("s", "a"), rule("s", "c")]), (0, "over", ("c",)))
 
+    def test_lots_are_ascending_and_of_devices_that_are_in(self):
+        plan = Plan(5, start=Deed("start", renews=["s"]), devices=[(name, [], None) for name in "zxy"], promises=[("s", "x", None)])
+        self.assertEqual(promise_break(plan, [], [((), e("s"))]), (0, "over", ("y", "z")))
+        both = (2, ("b", "c"))
+        self.assertEqual(promise_break(self.plan(both), [], [rule("s", "a"), rule("s", "b")]), (0, "over", ("a", "b")))
+        self.assertEqual(promise_break(self.plan(both), ["m"], [rule("s", "a"), rule("s", "b")]), (0, "over", ("a",)))
+
     def test_short_goes_before_over_within_a_promise(self):
         told = [rule("s", "a"), rule("s", "c")]
         self.assertEqual(promise_break(self.plan((1, ("a", "b"))), [], told), (0, "short", ("b",)))

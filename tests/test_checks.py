@@ -6,14 +6,14 @@ import unittest
 from holdingsshut.checks import check_heals, check_price, check_shut, check_theft
 from holdingsshut.courses import allowed
 from holdingsshut.errors import (
-    BadCells, BadStep, Barred, NoDeed, NotPrice, NotShut, NotTheft, PaperError, UnknownName,
+    BadCells, BadStep, Barred, NoDeed, NotPrice, NotShut, NotTheft, UnknownName,
 )
 from holdingsshut.holdings import first_holding, holding_covers, step_holding, stolen, survivors
 from holdingsshut.holds import Hold
 from holdingsshut.houses import lock_house, mend_house, refresh_house
 from holdingsshut.plans import Deed, Plan
 from holdingsshut.search import heals, judge, price
-from tests.helpers import check_raises
+from tests.helpers import check_raises, paper_fault
 from tests.test_courses import NO_DEEDS
 from tests.test_holds import other_writing
 from tests.test_papers import NO_INTEGERS
@@ -29,14 +29,7 @@ def e(name):
 
 
 def fault(call):
-    """What the checker raises, told as a tuple; None if it raises nothing."""
-    try:
-        answer = call()
-    except PaperError as caught:
-        return tuple(getattr(caught, name) for name in ["word", "kind", "at", "deed"])
-    if answer is not None:
-        raise AssertionError(answer)
-    return None
+    return paper_fault(call, ["word", "kind", "at", "deed"])
 
 
 def fault_plainly(plan, holdings, guessed=(), deed_name=None):

@@ -177,7 +177,7 @@ class Reading(unittest.TestCase):
             "lock w salt 1 length 1 of 1 ", "lock w salt 1 length 1 of  1", "lock w  salt 1 length 1 of 1", "lock w length 1 salt 1 of 1", "lock w salt 1 length 1 in 1", "lock w salts 1 length 1 of 1",
             "standing", "standing ", "standing a", "standing a ->", "standing a -> ", "standing -> a", "standing  -> a", "standing a -> b -> c", "standing a &  & b -> c",
             "standing  & a -> b", "standing a->b", "standing a -> b -> ", "road", "road s", "road s ", "road s by", "road s by ", "road s never ", "road s never x", "road s ever", "road  s never",
-            "road s  never", "road  by m", "promise", "promise s", "promise s by", "promise s by ", "promise s by  when m", "promise s by d when ", "promise s when m", "promise  s by d", "promise s  by d",
+            "road s  never", "road  by m", "road  never", "promise  by d", "promise  by d when m", "promise", "promise s", "promise s by", "promise s by ", "promise s by  when m", "promise s by d when ", "promise s when m", "promise  s by d", "promise s  by d",
             "start ", "start x",
         ]
         for row in top:
