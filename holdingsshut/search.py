@@ -19,8 +19,8 @@ def judge(plan, *, guessed=(), limit=200):
     kept, end = _search(plan, guessed, limit, is_theft)
     if end is None:
         return "shut", tuple([holding_of(state) for state, _ in kept])
-    state, course = end
-    return _theft(plan, course, stolen_of(plan, state), guessed)
+    last, course = end
+    return _theft(plan, course, stolen_of(plan, last), guessed)
 
 
 def _theft(plan, course, secret, guessed):

@@ -43,7 +43,8 @@ def teller(many):
     total = tuple([(mask, 1) for mask in masks] + [("s", 1)])
     return Plan(
         5, start=Deed("start", renews=masks + ["s"], tells=[total]), roads=[("s", None)],
-        deeds=[Deed(f"t{k}", tells=[e(mask)]) for k, mask in enumerate(masks)] + [Deed("all", tells=[e("s")]), Deed("zero", tells=[()]), Deed("still")],
+        deeds=[Deed(f"t{k}", tells=[e(mask)]) for k, mask in enumerate(masks)] + [Deed("all", tells=[e("s")]),
+            Deed("zero", tells=[()]), Deed("still")],
     )
 
 
@@ -65,7 +66,8 @@ class Audits(unittest.TestCase):
     def test_the_four_states(self):
         plan = Plan(
             5, marks=["m"], start=Deed("start", renews=["t", "s"]), roads=[("t", "m"), ("s", None)],
-            deeds=[Deed("m", sets=["m"]), Deed("tell", tells=[e("s"), e("t")]), Deed("shut", clears=["m"]), Deed("new", renews=["s", "t"])],
+            deeds=[Deed("m", sets=["m"]), Deed("tell", tells=[e("s"), e("t")]), Deed("shut", clears=["m"]),
+                Deed("new", renews=["s", "t"])],
         )
         self.assertEqual(audit(plan, ["m", "shut", "tell", "new", "tell", "m"]), [
             (0, "t", "shut"), (0, "s", "shut"), (1, "t", "free"), (1, "s", "shut"), (2, "t", "free"), (2, "s", "shut"),
@@ -92,7 +94,8 @@ class Audits(unittest.TestCase):
             self.assertEqual(audit(plan, course, guessed=guessed), wanted)
             self.assertEqual(audit(plan, list(course), guessed=tuple(guessed) * 2), wanted)
             space = known(plan, course, guessed=guessed)
-            self.assertEqual(exposed(plan, course, guessed=guessed), [x for x in plan.slots if e(f"{x}#{walks[-1].dates[x]}") in space])
+            self.assertEqual(exposed(plan, course, guessed=guessed),
+                [x for x in plan.slots if e(f"{x}#{walks[-1].dates[x]}") in space])
             deeds = [plan.start] + [plan.deed_named(name) for name in course]
             self.assertEqual(tell_times(plan, course), [time for time, deed in enumerate(deeds) if deed.tells])
         self.assertGreater(min(found[state] for state in ["shut", "free", "open", "stolen"]), 50)
@@ -105,8 +108,10 @@ class Audits(unittest.TestCase):
 
     def test_refusals(self):
         plan = lock_house(5, ["a"], "a", [("a", 0, 1, (1,))])
-        calls = [lambda course, told: audit(plan, course, guessed=told), lambda course, told: blames(plan, course, "x", guessed=told),
-                 lambda course, told: proof(plan, course, e("x"), guessed=told), lambda course, told: exposed(plan, course, guessed=told),
+        calls = [lambda course, told: audit(plan, course, guessed=told), lambda course,
+            told: blames(plan, course, "x", guessed=told),
+                 lambda course, told: proof(plan, course, e("x"), guessed=told), lambda course,
+                 told: exposed(plan, course, guessed=told),
                  lambda course, told: check_proof(plan, course, e("x"), ("held", (), ()), guessed=told)]
         for call in calls:
             for name in NO_LOCKS:
@@ -135,7 +140,8 @@ class Blames(unittest.TestCase):
         self.assertEqual(blames(plan, ["zero", "all"], "s"), [(2,)])
 
     def test_a_secret_that_is_known_without_tells(self):
-        plan = Plan(5, start=Deed("start", renews=["k", "s", "t"], letters=[(((),), e("s"), True), ((e("k"),), e("t"), True)]), roads=[("s", None), ("t", None)],
+        plan = Plan(5, start=Deed("start", renews=["k", "s", "t"],
+            letters=[(((),), e("s"), True), ((e("k"),), e("t"), True)]), roads=[("s", None), ("t", None)],
                     deeds=[Deed("tell", tells=[e("k"), e("s")])])
         for course in [[], ["tell", "tell"]]:
             self.assertEqual(blames(plan, course, "s"), [()])
@@ -198,7 +204,8 @@ class Proofs(unittest.TestCase):
         plan = mend_house(2, ["a", "b"], TWO, masks_new=False)
         course = ("take.a", "mend", "take.b")
         kind, steps, last = proof(plan, course, e("s"))
-        self.assertEqual((kind, steps, last), ("held", ((2, ()), (5, ()), (0, (((0, 1),),)), (4, (((1, 1),),))), ((2, 1), (3, 1))))
+        self.assertEqual((kind, steps, last),
+            ("held", ((2, ()), (5, ()), (0, (((0, 1),),)), (4, (((1, 1),),))), ((2, 1), (3, 1))))
         self.assertEqual(proof(plan, ("take.a",), e("s")), ("blind", (e("k.a#0"), e("s.1#0")), e("s#0")))
         self.assertEqual(proof(plan, (), ()), ("held", (), ()))
 
@@ -224,7 +231,8 @@ class Proofs(unittest.TestCase):
 
     def test_names_that_are_no_slots(self):
         plan = lock_house(5, ["a"], "a", [("a", 0, 1, (1,))])
-        for f, name in [(e("x"), "x"), (e("s~"), "s~"), ((("k.a", 1), ("s#0", 2), ("z", 1)), "s#0"), ((("a", 1), ("s", 1)), "a")]:
+        for f, name in [(e("x"), "x"), (e("s~"), "s~"), ((("k.a", 1), ("s#0", 2), ("z", 1)), "s#0"),
+            ((("a", 1), ("s", 1)), "a")]:
             check_raises(self, UnknownName, {"name": name}, lambda: proof(plan, (), f))
             check_raises(self, UnknownName, {"name": name}, lambda: check_proof(plan, (), f, ("blind", None, None)))
         # A lock is a slot, too.
@@ -236,16 +244,20 @@ class Proofs(unittest.TestCase):
         course = ("take.a", "mend", "take.b")
         _, steps, last = proof(plan, course, e("s"))
         for bad_steps, bad_last, at in [
-            (steps, last[:1], len(steps)), (steps, (), len(steps)), (((9, ()),) + steps[1:], last, 0), (steps[:1] + steps[2:], last, 2), ((), (), 0),
+            (steps, last[:1], len(steps)), (steps, (), len(steps)), (((9, ()),) + steps[1:], last, 0),
+            (steps[:1] + steps[2:], last, 2), ((), (), 0),
         ]:
             check_raises(self, BadStep, {"at": at}, lambda: check_proof(plan, course, e("s"), ("held", bad_steps, bad_last)))
         check_raises(self, BadStep, {"at": len(steps)}, lambda: check_proof(plan, course, e("k.a"), ("held", steps, last)))
         kind, basis, shift = proof(plan, course[:2], e("s"))
         self.assertIsNone(check_proof(plan, course[:2], e("s"), (kind, list(basis)[::-1] + [()], shift)))
-        for bad_basis, bad_shift, told in [((), shift, "basis"), (basis[1:], shift, "basis"), (basis, (), "shift"), (basis, e("k.a#0"), "shift")]:
-            check_raises(self, BadBlind, {"kind": told}, lambda: check_proof(plan, course[:2], e("s"), ("blind", bad_basis, bad_shift)))
+        for bad_basis, bad_shift, told in [((), shift, "basis"), (basis[1:], shift, "basis"), (basis, (), "shift"),
+            (basis, e("k.a#0"), "shift")]:
+            check_raises(self, BadBlind, {"kind": told},
+                lambda: check_proof(plan, course[:2], e("s"), ("blind", bad_basis, bad_shift)))
         # The other paper does not exist.
-        check_raises(self, BadBlind, {"kind": "shift"}, lambda: check_proof(plan, course, e("s"), ("blind", tuple(known(plan, course)), e("s#0"))))
+        check_raises(self, BadBlind, {"kind": "shift"},
+            lambda: check_proof(plan, course, e("s"), ("blind", tuple(known(plan, course)), e("s#0"))))
         check_raises(self, BadStep, {"at": 0}, lambda: check_proof(plan, course[:2], e("s"), ("held", ((5, ()),), ((0, 1),))))
 
 
@@ -296,10 +308,12 @@ class Readings(unittest.TestCase):
         self.assertEqual(reading_counts(machine, e("k.a")), [27, 27, 27])
         machine.do("take.b")
         # Six dated names; k.a, k.b at the date 1, s.1 and s are known.
-        self.assertEqual((reading_counts(machine, e("s")), reading_counts(machine, (("k.a", 1), ("s", 1)))), ([0, 0, 9], [3, 3, 3]))
+        self.assertEqual((reading_counts(machine, e("s")), reading_counts(machine, (("k.a", 1), ("s", 1)))),
+            ([0, 0, 9], [3, 3, 3]))
 
     def test_locks_are_left_out(self):
-        plan = Plan(3, start=Deed("start", renews=["w", "s", "t"], tells=[e("w"), e("t")], letters=[((e("w"),), e("s"), True)]), locks=[("w", 0, 1, (0, 1, 2))])
+        plan = Plan(3, start=Deed("start", renews=["w", "s", "t"], tells=[e("w"), e("t")],
+            letters=[((e("w"),), e("s"), True)]), locks=[("w", 0, 1, (0, 1, 2))])
         machine = Machine(plan, Tables.plain(3), [1, 2, 2])
         self.assertEqual((reading_counts(machine, e("s")), reading_counts(machine, e("t"))), ([0, 0, 1], [0, 0, 1]))
         quiet = lock_house(3, ["a"], "a", [("a", 0, 1, (0, 1, 2))])
@@ -310,7 +324,8 @@ class Readings(unittest.TestCase):
     def test_names_that_are_no_slots_or_are_locks(self):
         machine = Machine(lock_house(5, ["a"], "a", [("a", 0, 1, (1,))]), Tables.plain(5), [1, 2, 3])
         for f, name in [
-            (e("x"), "x"), (e("w.a"), "w.a"), ((("k.a", 1), ("w.a", 2)), "w.a"), ((("s", 1), ("w.a", 1), ("x", 1)), "w.a"), ((("a", 1), ("w.a", 1)), "a"),
+            (e("x"), "x"), (e("w.a"), "w.a"), ((("k.a", 1), ("w.a", 2)), "w.a"),
+            ((("s", 1), ("w.a", 1), ("x", 1)), "w.a"), ((("a", 1), ("w.a", 1)), "a"),
             (e("s~"), "s~"), (e("s#0"), "s#0"), ((("s", 1), ("s~", 1), ("w.a", 1)), "s~"),
         ]:
             check_raises(self, UnknownName, {"name": name}, lambda: reading_counts(machine, f))
@@ -323,7 +338,8 @@ class Readings(unittest.TestCase):
 
     def test_answers_are_new(self):
         plan = teller(2)
-        for call in [lambda: audit(plan, ["t0"]), lambda: tell_times(plan, ["t0"]), lambda: blames(plan, ["all"], "s"), lambda: exposed(plan, ["t0"])]:
+        for call in [lambda: audit(plan, ["t0"]), lambda: tell_times(plan, ["t0"]),
+            lambda: blames(plan, ["all"], "s"), lambda: exposed(plan, ["t0"])]:
             first = call()
             first.append(1)
             self.assertEqual(call(), first[:-1])

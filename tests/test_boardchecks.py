@@ -102,8 +102,10 @@ class Open(unittest.TestCase):
         plan = tell_plan()
         good = openings(Plan(5, marks=["m", "n"], start=Deed("start", renews=["k", "j", "s"])))[0]
         for bad in [
-            (["m"], ()), (("n", "m"), ()), (("m", "m"), ()), (("x",), ()), ([], ()), (None, ()), ("m", ()), ((None,), ()), (("m", 5), ()),
-            ((["m"],), ()), ({"m": 1}, ()), ((), (((e("k~"),), e("s")),)), ((), (((e("k"),), e("s#0")),)), ((), [((e("k"), e("x")), e("s"))]),
+            (["m"], ()), (("n", "m"), ()), (("m", "m"), ()), (("x",), ()), ([], ()), (None, ()), ("m", ()),
+            ((None,), ()), (("m", 5), ()),
+            ((["m"],), ()), ({"m": 1}, ()), ((), (((e("k~"),), e("s")),)), ((), (((e("k"),), e("s#0")),)),
+            ((), [((e("k"), e("x")), e("s"))]),
             ((), (((), e("m")),)), ((), (((), e("d")),)),
         ]:
             for pairs, at in [([bad], 0), ([good, bad, bad], 1), ((good, good, bad, (1, 2)), 2)]:
@@ -112,7 +114,8 @@ class Open(unittest.TestCase):
     def test_start_faults(self):
         plan = mend_house(5, ["a", "b"], TWO, masks_new=False)
         pairs = openings(plan)
-        for told in [[], (), pairs[1:], [(("o.a",), pairs[0][1])], [((), pairs[0][1][1:])], [((), pairs[0][1] + (((e("s"),), e("s")),))]]:
+        for told in [[], (), pairs[1:], [(("o.a",), pairs[0][1])], [((), pairs[0][1][1:])],
+            [((), pairs[0][1] + (((e("s"),), e("s")),))]]:
             check_raises(self, NotOpen, {"kind": "start", "at": 0, "name": ""}, lambda: check_open(plan, told))
 
     def test_faults_written_out(self):
@@ -122,7 +125,8 @@ class Open(unittest.TestCase):
         self.assertIsNone(check_open(plan, right))
         self.assertIsNone(check_open(plan, right[::-1]))
         for pairs, kind, at, name in [
-            (right[:1], "step", 0, "out"), (right + [((), ())], "short", 2, "s"), (right + [(("m",), board + (((), e("s")),))], "over", 2, "s"),
+            (right[:1], "step", 0, "out"), (right + [((), ())], "short", 2, "s"),
+            (right + [(("m",), board + (((), e("s")),))], "over", 2, "s"),
             ([(("m",), ())] + right, "step", 0, "back"),
             # With n set, d alone comes to what only d and c together were promised.
             (right + [(("n",), board)], "over", 2, "s"),
@@ -132,10 +136,13 @@ class Open(unittest.TestCase):
     def test_cut_goes_before_step_and_promises_before_both(self):
         plan = Plan(
             5, start=Deed("start", renews=["k", "s"], letters=[((e("k"),), e("s"), True)]), devices=[("d", [e("k")], None)],
-            promises=[("s", "d", None)], deeds=[Deed("still", renews=["s"], letters=[((e("k"),), e("s"), True)]), Deed("new", renews=["k"])],
+            promises=[("s", "d", None)],
+            deeds=[Deed("still", renews=["s"], letters=[((e("k"),), e("s"), True)]), Deed("new", renews=["k"])],
         )
-        check_raises(self, NotOpen, {"kind": "cut", "at": 0, "name": "new"}, lambda: check_open(plan, [((), first_board(plan))]))
-        check_raises(self, NotOpen, {"kind": "short", "at": 0, "name": "s"}, lambda: check_open(plan, [((), ()), ((), first_board(plan))]))
+        check_raises(self, NotOpen, {"kind": "cut", "at": 0, "name": "new"},
+            lambda: check_open(plan, [((), first_board(plan))]))
+        check_raises(self, NotOpen, {"kind": "short", "at": 0, "name": "s"},
+            lambda: check_open(plan, [((), ()), ((), first_board(plan))]))
 
     def test_against_the_plain_reading(self):
         chance = random.Random(262)
@@ -178,7 +185,8 @@ class Cuts(unittest.TestCase):
         return Plan(
             5, marks=["m", "n"], start=Deed("start", renews=["k", "j", "s"]),
             devices=[("d", [e("j"), e("k"), e("s")], "m"), ("c", [e("k")], "n"), ("b", [], None)],
-            deeds=[Deed("out", sets=["m"]), Deed("back", clears=["m"]), Deed("new", renews=["k", "s"]), Deed("hand", renews=["k"], hands=["d"], clears=["m"]),
+            deeds=[Deed("out", sets=["m"]), Deed("back", clears=["m"]), Deed("new", renews=["k", "s"]),
+                Deed("hand", renews=["k"], hands=["d"], clears=["m"]),
                    Deed("lose", renews=["k"], sets=["m"])],
         )
 
@@ -191,7 +199,8 @@ class Cuts(unittest.TestCase):
 
     def test_right_breaks(self):
         plan = self.plan()
-        for course, device, form in [(("new",), "d", e("k")), (("new",), "d", e("s")), (("new",), "c", e("k")), (("hand", "new"), "c", e("k"))]:
+        for course, device, form in [(("new",), "d", e("k")), (("new",), "d", e("s")), (("new",), "c", e("k")),
+            (("hand", "new"), "c", e("k"))]:
             answer = self.paper(plan, course, device, form)
             self.assertIsNone(check_break(plan, answer))
             kind, course, device, form, basis, shift = answer
@@ -207,12 +216,18 @@ class Cuts(unittest.TestCase):
         _, course, device, form, basis, shift = good
         for bad in [
             ("cut", (), device, form, basis, shift), ("cut", [], device, (), (), ()), ("cut", course, "x", form, basis, shift),
-            ("cut", course, None, form, basis, shift), ("cut", course, ["d"], form, basis, shift), ("cut", course, "m", form, basis, shift),
-            ("cut", ("lose",), device, form, basis, shift), ("cut", ("hand",), device, form, basis, shift), ("cut", ("out", "hand"), device, (), (), ()),
-            ("cut", ("out", "new"), device, (), (), ()), ("cut", course, device, e("j"), basis, shift), ("cut", course, device, (("k", 2),), basis, shift),
-            ("cut", course, device, (), (), ()), ("cut", course, device, list(form), basis, shift), ("cut", course, "c", e("s"), basis, shift), ("cut", course, "b", (), (), ()),
-            ("cut", ("back",), device, (), (), ()), ("cut", ("out", "back"), device, e("k"), (), ()), ("cut", ("out", "back"), device, (), basis, ()),
-            ("cut", ("out", "back"), device, (), (), shift), ("cut", ("out", "back"), device, [], (), ()), ("cut", ("out", "back"), device, (), [], ()),
+            ("cut", course, None, form, basis, shift), ("cut", course, ["d"], form, basis, shift),
+            ("cut", course, "m", form, basis, shift),
+            ("cut", ("lose",), device, form, basis, shift), ("cut", ("hand",), device, form, basis, shift),
+            ("cut", ("out", "hand"), device, (), (), ()),
+            ("cut", ("out", "new"), device, (), (), ()), ("cut", course, device, e("j"), basis, shift),
+            ("cut", course, device, (("k", 2),), basis, shift),
+            ("cut", course, device, (), (), ()), ("cut", course, device, list(form), basis, shift),
+            ("cut", course, "c", e("s"), basis, shift), ("cut", course, "b", (), (), ()),
+            ("cut", ("back",), device, (), (), ()), ("cut", ("out", "back"), device, e("k"), (), ()),
+            ("cut", ("out", "back"), device, (), basis, ()),
+            ("cut", ("out", "back"), device, (), (), shift), ("cut", ("out", "back"), device, [], (), ()),
+            ("cut", ("out", "back"), device, (), [], ()),
             ("cut", ("out", "back"), device, (), (), []), ("cut", ("out", "back"), device, None, (), ()),
         ]:
             check_raises(self, NotOpen, {"kind": "none", "at": len(bad[1]), "name": ""}, lambda: check_break(plan, bad))
@@ -222,24 +237,29 @@ class Cuts(unittest.TestCase):
         _, course, device, form, basis, shift = self.paper(plan, ("new",), "d", e("k"))
         self.assertTrue(basis and shift)
         for bad_basis, bad_shift, kind in [
-            ((), shift, "basis"), (basis[1:], (), "basis"), (basis, (), "shift"), (basis, (("k", 2),), "shift"), (basis + (e("k"),), shift, "shift"),
+            ((), shift, "basis"), (basis[1:], (), "basis"), (basis, (), "shift"), (basis, (("k", 2),), "shift"),
+            (basis + (e("k"),), shift, "shift"),
         ]:
-            check_raises(self, BadBlind, {"kind": kind}, lambda: check_break(plan, ("cut", course, device, form, bad_basis, bad_shift)))
+            check_raises(self, BadBlind, {"kind": kind},
+                lambda: check_break(plan, ("cut", course, device, form, bad_basis, bad_shift)))
 
     def test_the_courses_refusals_come_first(self):
         plan = self.plan()
         for name in NO_DEEDS:
-            check_raises(self, NoDeed, {"at": 1, "name": name}, lambda: check_break(plan, ("cut", ("out", name), "x", (), (), ())))
+            check_raises(self, NoDeed, {"at": 1, "name": name},
+                lambda: check_break(plan, ("cut", ("out", name), "x", (), (), ())))
             check_raises(self, NoDeed, {"at": 0, "name": name}, lambda: check_break(plan, ("short", [name], "x", (), (), ())))
         house = mend_house(5, ["a"], "a")
         for kind in ["cut", "short", "over"]:
-            check_raises(self, Barred, {"at": 1, "name": "take.a"}, lambda: check_break(house, (kind, ("take.a", "take.a"), 9, ("x",), (), ())))
+            check_raises(self, Barred, {"at": 1, "name": "take.a"},
+                lambda: check_break(house, (kind, ("take.a", "take.a"), 9, ("x",), (), ())))
 
 
 class Promises(unittest.TestCase):
     def plan(self):
         return Plan(
-            5, marks=["m", "n"], start=Deed("start", renews=["k", "j", "s", "t"], letters=[((e("k"),), e("s"), True), ((e("j"),), e("s"), False)]),
+            5, marks=["m", "n"], start=Deed("start", renews=["k", "j", "s", "t"],
+                letters=[((e("k"),), e("s"), True), ((e("j"),), e("s"), False)]),
             devices=[("d", [e("k")], "m"), ("c", [e("j")], "n"), ("b", [], None)],
             promises=[("s", (1, ("d", "c")), None), ("t", "d", "n"), ("s", TWO_OF, None), ("t", "c", None)],
             deeds=[Deed("m", sets=["m"]), Deed("n", sets=["n"]), Deed("s", renews=["s"])],
@@ -255,8 +275,10 @@ class Promises(unittest.TestCase):
     def test_right_breaks_that_are_not_the_first_ones(self):
         plan = self.plan()
         for kind, course, number, lot in [
-            ("short", (), 3, ("c",)), ("short", ("n",), 1, ("d",)), ("short", ("s",), 0, ("d",)), ("over", (), 2, ("c",)), ("over", ("m",), 2, ("b", "c")),
-            ("short", ("s",), 0, ("b", "c", "d")), ("short", ("s", "m"), 0, ["c", "b", "c"]), ("over", (), 2, ["b", "d", "b"]), ("short", (), 3, ("c", "d")),
+            ("short", (), 3, ("c",)), ("short", ("n",), 1, ("d",)), ("short", ("s",), 0, ("d",)),
+            ("over", (), 2, ("c",)), ("over", ("m",), 2, ("b", "c")),
+            ("short", ("s",), 0, ("b", "c", "d")), ("short", ("s", "m"), 0, ["c", "b", "c"]),
+            ("over", (), 2, ["b", "d", "b"]), ("short", (), 3, ("c", "d")),
         ]:
             answer = self.paper(plan, kind, course, number, lot)
             self.assertIsNone(check_break(plan, answer))
@@ -271,23 +293,31 @@ class Promises(unittest.TestCase):
                 bad = good[:2] + (number,) + good[3:]
                 check_raises(self, NotOpen, {"kind": "none", "at": 0, "name": ""}, lambda: check_break(plan, bad))
         for bad in [
-            ("short", (), 1, ("d",)) + short[4:], ("short", ("m", "n"), 1, ("d",)) + short[4:], ("short", (), 3, ("x",)) + short[4:],
-            ("short", (), 3, ("c", "x")) + short[4:], ("short", (), 3, ("c", None)) + short[4:], ("short", (), 3, ()) + short[4:],
-            ("short", (), 3, ("d",)) + short[4:], ("short", ("n",), 3, ("c",)) + short[4:], ("over", (), 2, ("c", "d")) + over[4:],
-            ("over", (), 0, ("c",)) + over[4:], ("over", ("n",), 2, ("c",)) + over[4:], ("over", (), 2, ("c", "m")) + over[4:], ("short", (), 2, ("c",)) + short[4:],
+            ("short", (), 1, ("d",)) + short[4:], ("short", ("m", "n"), 1, ("d",)) + short[4:],
+            ("short", (), 3, ("x",)) + short[4:],
+            ("short", (), 3, ("c", "x")) + short[4:], ("short", (), 3, ("c", None)) + short[4:],
+            ("short", (), 3, ()) + short[4:],
+            ("short", (), 3, ("d",)) + short[4:], ("short", ("n",), 3, ("c",)) + short[4:],
+            ("over", (), 2, ("c", "d")) + over[4:],
+            ("over", (), 0, ("c",)) + over[4:], ("over", ("n",), 2, ("c",)) + over[4:],
+            ("over", (), 2, ("c", "m")) + over[4:], ("short", (), 2, ("c",)) + short[4:],
         ]:
             check_raises(self, NotOpen, {"kind": "none", "at": len(bad[1]), "name": ""}, lambda: check_break(plan, bad))
 
     def test_bad_papers(self):
         plan = self.plan()
         kind, course, number, lot, basis, shift = self.paper(plan, "short", (), 3, ("c",))
-        for bad_basis, bad_shift, fault_kind in [((), shift, "basis"), (basis, (), "shift"), ([], [], "basis"), (basis, e("s"), "shift")]:
-            check_raises(self, BadBlind, {"kind": fault_kind}, lambda: check_break(plan, (kind, course, number, lot, bad_basis, bad_shift)))
+        for bad_basis, bad_shift, fault_kind in [((), shift, "basis"), (basis, (), "shift"), ([], [], "basis"),
+            (basis, e("s"), "shift")]:
+            check_raises(self, BadBlind, {"kind": fault_kind},
+                lambda: check_break(plan, (kind, course, number, lot, bad_basis, bad_shift)))
         kind, course, number, lot, steps, last = self.paper(plan, "over", (), 2, ("c",))
-        for bad_steps, bad_last, at in [(steps[:1], last, 1), (steps, (), len(steps)), (((9, ()),) + steps[1:], last, 0), ((), (), 0)]:
+        for bad_steps, bad_last, at in [(steps[:1], last, 1), (steps, (), len(steps)),
+            (((9, ()),) + steps[1:], last, 0), ((), (), 0)]:
             check_raises(self, BadStep, {"at": at}, lambda: check_break(plan, (kind, course, number, lot, bad_steps, bad_last)))
         # What is not broken has no right paper.
-        check_raises(self, BadBlind, {"kind": "shift"}, lambda: check_break(plan, ("short", (), 0, ("d",), (e("k"), e("s")), e("s"))))
+        check_raises(self, BadBlind, {"kind": "shift"},
+            lambda: check_break(plan, ("short", (), 0, ("d",), (e("k"), e("s")), e("s"))))
 
     def test_answers_of_the_search(self):
         chance = random.Random(264)

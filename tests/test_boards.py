@@ -35,7 +35,8 @@ def sealed_plan():
         standing=[((e("t"),), e("s")), ((e("j"),), e("k"))],
         devices=[("d", [e("k"), (("j", 1), ("s", 2)), e("j")], "m"), ("c", [e("s"), e("k")], None), ("b", [], "n")],
         deeds=[
-            Deed("new.k", renews=["k"], letters=[((e("k~"),), e("k"), True), ((e("j"),), e("t"), False), ((e("t"),), (("k", 1), ("k~", 1)), False)]),
+            Deed("new.k", renews=["k"],
+                letters=[((e("k~"),), e("k"), True), ((e("j"),), e("t"), False), ((e("t"),), (("k", 1), ("k~", 1)), False)]),
             Deed("new.t", renews=["t"], hands=["d"]), Deed("out", sets=["m"]), Deed("back", clears=["m"], renews=["j"]),
             Deed("hand", clears=["m"], renews=["k"], hands=["d", "c"]),
         ],
@@ -77,7 +78,8 @@ class Boards(unittest.TestCase):
 
     def test_a_rule_that_would_still_be_right_is_taken_off(self):
         plan = Plan(5, start=Deed("start", renews=["k", "s"]), deeds=[Deed("go", renews=["k"])])
-        self.assertEqual(board_after(plan, [((e("k"),), e("k")), ((e("s"),), (("k", 1), ("s", 1))), rule("s", "s"), ((), e("k"))], "go"), (rule("s", "s"),))
+        self.assertEqual(board_after(plan,
+            [((e("k"),), e("k")), ((e("s"),), (("k", 1), ("s", 1))), rule("s", "s"), ((), e("k"))], "go"), (rule("s", "s"),))
 
     def test_against_the_plain_reading(self):
         chance = random.Random(242)
@@ -136,7 +138,8 @@ class Rules(unittest.TestCase):
         self.assertEqual(keeping_rules(plan, board, "new.k", "d"), [
             rule("k~"), ((), (("j", 1), ("s", 2))), rule("j"),
         ] + old_board + letters + standing)
-        self.assertEqual(keeping_rules(plan, tuple(board), "new.k", "c"), [rule("s"), rule("k~")] + old_board + letters + standing)
+        self.assertEqual(keeping_rules(plan, tuple(board), "new.k", "c"),
+            [rule("s"), rule("k~")] + old_board + letters + standing)
         self.assertEqual(keeping_rules(plan, (), "out", "b"), standing)
 
     def test_keeping_rules_keep_the_order_of_the_board_before_renaming(self):
@@ -165,7 +168,8 @@ class Cutting(unittest.TestCase):
     def test_an_empty_drawer(self):
         plan = Plan(
             5, marks=["m"], start=Deed("start", renews=["k"]), devices=[("d", [], "m")],
-            deeds=[Deed("back", clears=["m"]), Deed("hand", clears=["m"], hands=["d"]), Deed("new", renews=["k"]), Deed("stay")],
+            deeds=[Deed("back", clears=["m"]), Deed("hand", clears=["m"], hands=["d"]), Deed("new", renews=["k"]),
+                Deed("stay")],
         )
         self.assertEqual(cut_off(plan, ["m"], (), "back"), ("d", ()))
         self.assertIsNone(cut_off(plan, ["m"], (), "hand"))
@@ -176,10 +180,12 @@ class Cutting(unittest.TestCase):
     def test_a_form_may_stay_known_though_its_slots_are_renewed(self):
         device = ("d", [(("a", 1), ("b", 1)), e("c")], None)
         for letters, wanted in [
-            ([((e("c"),), (("a", 1), ("a~", 4)), True)], None), ([((e("a"),), (("a", 1), ("a~", 4)), True)], (("a", 1), ("b", 1))),
+            ([((e("c"),), (("a", 1), ("a~", 4)), True)], None),
+            ([((e("a"),), (("a", 1), ("a~", 4)), True)], (("a", 1), ("b", 1))),
             ([((e("c"),), (("a", 1), ("b", 1)), False)], None), ([], (("a", 1), ("b", 1))),
         ]:
-            plan = Plan(5, start=Deed("start", renews=["a", "b", "c"]), devices=[device], deeds=[Deed("go", renews=["a"], letters=letters)])
+            plan = Plan(5, start=Deed("start", renews=["a", "b", "c"]), devices=[device],
+                deeds=[Deed("go", renews=["a"], letters=letters)])
             self.assertEqual(cut_off(plan, (), (), "go"), wanted and ("d", wanted))
         # What the old board opens with old numbers helps, too.
         plan = Plan(5, start=Deed("start", renews=["a", "b"]), devices=[("d", [e("a")], None)],
@@ -188,12 +194,14 @@ class Cutting(unittest.TestCase):
         self.assertEqual(cut_off(plan, (), [rule("a", "a")], "go"), ("d", e("a")))
 
     def test_the_deed_closes_under_standing_letters_in_new_numbers(self):
-        plan = Plan(5, start=Deed("start", renews=["a", "b"]), standing=[((e("b"),), e("a"))], devices=[("d", [e("a"), e("b")], None)],
+        plan = Plan(5, start=Deed("start", renews=["a", "b"]), standing=[((e("b"),), e("a"))],
+            devices=[("d", [e("a"), e("b")], None)],
                     deeds=[Deed("go", renews=["a"])])
         self.assertIsNone(cut_off(plan, (), (), "go"))
 
     def test_the_first_device_in_the_order_of_the_plan(self):
-        plan = Plan(5, start=Deed("start", renews=["a"]), devices=[("z", [], None), ("d", [e("a")], None), ("c", [e("a")], None)],
+        plan = Plan(5, start=Deed("start", renews=["a"]),
+            devices=[("z", [], None), ("d", [e("a")], None), ("c", [e("a")], None)],
                     deeds=[Deed("go", renews=["a"]), Deed("hand", renews=["a"], hands=["d"])])
         self.assertEqual(cut_off(plan, (), (), "go"), ("d", e("a")))
         self.assertEqual(cut_off(plan, (), (), "hand"), ("c", e("a")))
@@ -267,7 +275,8 @@ class Promises(unittest.TestCase):
         self.assertEqual(promise_break(self.plan("a"), ["m"], [rule("s", "a"), rule("s", "c")]), (0, "over", ("c",)))
 
     def test_lots_are_ascending_and_of_devices_that_are_in(self):
-        plan = Plan(5, start=Deed("start", renews=["s"]), devices=[(name, [], None) for name in "zxy"], promises=[("s", "x", None)])
+        plan = Plan(5, start=Deed("start", renews=["s"]), devices=[(name, [], None) for name in "zxy"],
+            promises=[("s", "x", None)])
         self.assertEqual(promise_break(plan, [], [((), e("s"))]), (0, "over", ("y", "z")))
         both = (2, ("b", "c"))
         self.assertEqual(promise_break(self.plan(both), [], [rule("s", "a"), rule("s", "b")]), (0, "over", ("a", "b")))
@@ -394,14 +403,17 @@ class Friends(unittest.TestCase):
             answer = self.check(tiny_plan(chance, chance.choice([0, 0, 1])), 3)
             key = (answer[0], min(len(answer[1]), 3))
             found[key] = found.get(key, 0) + 1
-        for key, least in [(("open", 1), 20), (("open", 2), 20), (("open", 3), 20), (("cut", 1), 20), (("cut", 2), 3), (("short", 0), 20), (("over", 0), 5)]:
+        for key, least in [(("open", 1), 20), (("open", 2), 20), (("open", 3), 20), (("cut", 1), 20), (("cut", 2), 3),
+            (("short", 0), 20), (("over", 0), 5)]:
             self.assertGreater(found.get(key, 0), least, (key, found))
 
     def test_houses_are_open(self):
         three = list("abc")
         for plan in [
-            mend_house(5, three, (2, ("a", "b", "c"))), mend_house(5, three, (2, ("a", "b", "c")), keys_new=False, secret_new=True),
-            refresh_house(5, three, (2, ("a", "b", "c"))), tree_house(5, (("a", "b"), "c")), lease_house(5, 2, "tree", [(0, 2)]),
+            mend_house(5, three, (2, ("a", "b", "c"))),
+            mend_house(5, three, (2, ("a", "b", "c")), keys_new=False, secret_new=True),
+            refresh_house(5, three, (2, ("a", "b", "c"))), tree_house(5, (("a", "b"), "c")),
+            lease_house(5, 2, "tree", [(0, 2)]),
             lease_house(5, 2, "chains", [(0, 0), (2, 2)]), lock_house(5, three, (2, ("a", "b")), [("a", 0, 1, (1, 2))]),
         ]:
             self.assertEqual(friends(plan), ("open", self.pairs_plainly(plan)))
@@ -409,20 +421,24 @@ class Friends(unittest.TestCase):
     def test_a_friend_that_is_cut_off(self):
         plan = Plan(
             5, marks=["m"], start=Deed("start", renews=["k", "j"]), devices=[("d", [e("j"), e("k")], "m")],
-            deeds=[Deed("out", unless="m", sets=["m"]), Deed("new", when="m", renews=["k"]), Deed("back", when="m", clears=["m"])],
+            deeds=[Deed("out", unless="m", sets=["m"]), Deed("new", when="m", renews=["k"]),
+                Deed("back", when="m", clears=["m"])],
         )
         self.assertEqual(friends(plan), ("cut", ("out", "back"), "d", (), (), ()))
-        plan = Plan(5, start=Deed("start", renews=["k", "j"]), devices=[("d", [e("j"), e("k")], None)], deeds=[Deed("new", renews=["k"])])
+        plan = Plan(5, start=Deed("start", renews=["k", "j"]), devices=[("d", [e("j"), e("k")], None)],
+            deeds=[Deed("new", renews=["k"])])
         self.assertEqual(friends(plan), ("cut", ("new",), "d", e("k"), (e("j"), e("k~")), e("k")))
 
     def test_broken_promises_behind_courses(self):
         plan = Plan(
-            5, marks=["m"], start=Deed("start", renews=["k", "s"], letters=[((e("k"),), e("s"), True)]), devices=[("d", [e("k")], None)],
+            5, marks=["m"], start=Deed("start", renews=["k", "s"], letters=[((e("k"),), e("s"), True)]),
+            devices=[("d", [e("k")], None)],
             deeds=[Deed("set", sets=["m"]), Deed("new", when="m", renews=["s"])], promises=[("s", "d", None)],
         )
         self.assertEqual(friends(plan), ("short", ("set", "new"), 0, ("d",), (e("k"),), e("s")))
         plan = Plan(
-            5, marks=["m"], start=Deed("start", renews=["k", "s"], letters=[((e("k"),), e("s"), True)]), devices=[("d", [e("k")], None), ("c", [e("k")], None)],
+            5, marks=["m"], start=Deed("start", renews=["k", "s"], letters=[((e("k"),), e("s"), True)]),
+            devices=[("d", [e("k")], None), ("c", [e("k")], None)],
             deeds=[Deed("set", sets=["m"])], promises=[("s", (2, ("d", "c")), "m")],
         )
         self.assertEqual(friends(plan), ("over", ("set",), 0, ("c",), ((0, ()), (1, (((0, 1),),))), ((1, 1),)))

@@ -92,8 +92,10 @@ class Shut(unittest.TestCase):
             (["o.a"], (), (), ()), (("o.b", "o.a"), (), (), ()), (("o.a", "o.a"), (), (), ()), (("o.x",), (), (), ()),
             ((), ["s"], (), ()), ((), ("s", "s"), (), ()), ((), ("k.a",), (), ()), ([], (), (), ()), ((), [], (), ()),
             ((), (), (e("x"),), ()), ((), (), (e("s~"),), ()), ((), (), (e("s#0"),), ()), ((), (), [e("o.a")], []),
-            ((), (), (), (((e("s~"),), e("s")),)), ((), (), (), (((e("s"),), e("s#1")),)), ((), (), (), [((e("s"), e("y")), e("s"))]),
-            (None, (), (), ()), ("o.a", (), (), ()), ((), "s", (), ()), ((), None, (), ()), ((None,), (), (), ()), ((), (True,), (), ()),
+            ((), (), (), (((e("s~"),), e("s")),)), ((), (), (), (((e("s"),), e("s#1")),)),
+            ((), (), (), [((e("s"), e("y")), e("s"))]),
+            (None, (), (), ()), ("o.a", (), (), ()), ((), "s", (), ()), ((), None, (), ()), ((None,), (), (), ()),
+            ((), (True,), (), ()),
             (("o.a", 5), (), (), ()), ((["o.a"],), (), (), ()), ({"o.a": 1}, (), (), ()),
         ]:
             for holdings, at in [([bad], 0), (shut + [bad], len(shut)), ([good, bad, bad], 1), ((good, bad, (1, 2, 3, 4)), 1)]:
@@ -131,7 +133,8 @@ class Shut(unittest.TestCase):
         self.assertIsNone(check_shut(plan, [empty, known, after]))
         for holdings, kind, at, deed in [
             ([low], "step", 0, "b"), ([empty, known], "step", 1, "a"), ([known, empty], "step", 0, "a"),
-            ([empty, marked], "step", 0, "b"), ([empty, marked, known], "step", 2, "a"), ([((), (), (e("s"),), ())], "secret", 0, ""),
+            ([empty, marked], "step", 0, "b"), ([empty, marked, known], "step", 2, "a"),
+            ([((), (), (e("s"),), ())], "secret", 0, ""),
             ([low, known, ((), (), (e("s"),), ())], "secret", 2, ""), ([low, ((), (), (e("s"),), ()), known], "secret", 1, ""),
             ([empty, ((), (), (e("s"),), ())], "step", 0, "b"),
         ]:
@@ -165,7 +168,8 @@ class Shut(unittest.TestCase):
     def test_refusals(self):
         plan = lock_house(5, ["a"], "a", [("a", 0, 1, (1,))])
         for name in NO_LOCKS:
-            check_raises(self, UnknownName, {"name": name}, lambda: check_shut(plan, [(None, (), (), ())], guessed=["w.a", name]))
+            check_raises(self, UnknownName, {"name": name},
+                lambda: check_shut(plan, [(None, (), (), ())], guessed=["w.a", name]))
 
     def test_arguments_stay(self):
         plan = mend()
@@ -193,23 +197,29 @@ class Heals(unittest.TestCase):
     def test_survivors_come_behind_all_entries(self):
         plan = mend_house(5, ["a"], "a", secret_new=True)
         holdings = list(heals(plan, "mend")[1])
-        check_raises(self, NotShut, {"kind": "survivor", "at": 0, "deed": "take.a"}, lambda: check_heals(plan, holdings, "take.a"))
-        check_raises(self, NotShut, {"kind": "step", "at": 0, "deed": "take.a"}, lambda: check_heals(plan, holdings[:1], "take.a"))
+        check_raises(self, NotShut, {"kind": "survivor", "at": 0, "deed": "take.a"},
+            lambda: check_heals(plan, holdings, "take.a"))
+        check_raises(self, NotShut, {"kind": "step", "at": 0, "deed": "take.a"},
+            lambda: check_heals(plan, holdings[:1], "take.a"))
         mixed = [(("o.a",), ()) + holdings[1][2:], (("o.a",), ("s",), (e("k.a"),), ())] + holdings
         check_raises(self, NotShut, {"kind": "survivor", "at": 2, "deed": "take.a"}, lambda: check_heals(plan, mixed, "take.a"))
         keeps = mend_house(5, ["a", "b"], TWO, masks_new=False)
         entries = [((), (), (e("s.1"),)), (("o.a",), (), (e("s.1"), e("k.a"))), (("o.b",), (), (e("s.1"), e("k.b"), e("s")))]
         boxes = first_holding(keeps)[3]
-        entries = [entry + (boxes,) for entry in entries] + [((), (), (e("s"), e("s.1")), boxes), (("o.a",), (), (e("s"), e("s.1"), e("k.a")), boxes),
-                                                             (("o.a", "o.b"), (), (e("s"), e("s.1"), e("k.a"), e("k.b")), boxes)]
+        entries = [entry + (boxes,) for entry in entries] + [((), (), (e("s"), e("s.1")), boxes),
+            (("o.a",), (), (e("s"), e("s.1"), e("k.a")), boxes),
+                                                             (("o.a", "o.b"), (), (e("s"), e("s.1"), e("k.a"),
+                                                                 e("k.b")), boxes)]
         check_raises(self, NotShut, {"kind": "survivor", "at": 0, "deed": "mend"}, lambda: check_heals(keeps, entries, "mend"))
 
     def test_refusals(self):
         plan = mend()
         for name in NO_DEEDS:
-            check_raises(self, NoDeed, {"at": 0, "name": name}, lambda: check_heals(plan, [(None, (), (), ())], name, guessed=["y"]))
+            check_raises(self, NoDeed, {"at": 0, "name": name},
+                lambda: check_heals(plan, [(None, (), (), ())], name, guessed=["y"]))
         for name in NO_LOCKS:
-            check_raises(self, UnknownName, {"name": name}, lambda: check_heals(plan, [(None, (), (), ())], "mend", guessed=[name]))
+            check_raises(self, UnknownName, {"name": name},
+                lambda: check_heals(plan, [(None, (), (), ())], "mend", guessed=[name]))
 
 
 class Thefts(unittest.TestCase):
@@ -231,7 +241,8 @@ class Thefts(unittest.TestCase):
         plan = self.plan()
         _, course, secret, steps, last = judge(plan)
         check_raises(self, BadStep, {"at": 0}, lambda: check_theft(plan, course, secret, ((6, ()),) + steps[1:], last))
-        check_raises(self, BadStep, {"at": 2}, lambda: check_theft(plan, course, secret, steps[:2] + ((0, (((1, 1),),)),), last))
+        check_raises(self, BadStep, {"at": 2},
+            lambda: check_theft(plan, course, secret, steps[:2] + ((0, (((1, 1),),)),), last))
         check_raises(self, BadStep, {"at": 4}, lambda: check_theft(plan, course, secret, steps, last[:1]))
         check_raises(self, BadStep, {"at": 0}, lambda: check_theft(plan, course[:2], secret, ((5, ()),), ((0, 1),)))
         for name in ["k.a", "o.a", "", None, 0, ["s"], "s~", "s#0"]:
@@ -255,7 +266,8 @@ class Thefts(unittest.TestCase):
             check_raises(self, UnknownName, {"name": name}, lambda: check_theft(plan, ["x"], None, steps, last, guessed=[name]))
 
     def test_the_goal_is_the_present_number(self):
-        plan = Plan(5, marks=["m"], start=Deed("start", renews=["s"], tells=[e("s")]), roads=[("s", "m")], deeds=[Deed("new", renews=["s"])])
+        plan = Plan(5, marks=["m"], start=Deed("start", renews=["s"], tells=[e("s")]), roads=[("s", "m")],
+            deeds=[Deed("new", renews=["s"])])
         self.assertIsNone(check_theft(plan, (), "s", ((0, ()),), ((0, 1),)))
         check_raises(self, BadStep, {"at": 1}, lambda: check_theft(plan, ("new",), "s", ((0, ()),), ((0, 1),)))
 
@@ -280,8 +292,10 @@ class Prices(unittest.TestCase):
         # Locks in another order and twice, further pairs, pairs in another order, lists.
         more = ((("w.c",), judge(plan, guessed=["w.c"])[1]), ((), judge(plan)[1]))
         for answer in [
-            ("price", cost, ["w.b", "w.c", "w.a", "w.b"], theft, shuts), ("price", cost, locks, theft, list(shuts) + list(more)),
-            ("price", cost, locks, theft, more + shuts[::-1]), ("price", cost, locks, theft, [(("w.b", "w.a", "w.b"), shuts[0][1]), (["w.c", "w.b"], shuts[1][1])]),
+            ("price", cost, ["w.b", "w.c", "w.a", "w.b"], theft, shuts),
+            ("price", cost, locks, theft, list(shuts) + list(more)),
+            ("price", cost, locks, theft, more + shuts[::-1]),
+            ("price", cost, locks, theft, [(("w.b", "w.a", "w.b"), shuts[0][1]), (["w.c", "w.b"], shuts[1][1])]),
         ]:
             self.assertIsNone(check_price(plan, answer, cells=2))
         # A set that costs the same, though it is not the first one.
@@ -295,20 +309,23 @@ class Prices(unittest.TestCase):
         plan = self.plan()
         _, cost, locks, theft, shuts = price(plan, cells=2)
         for name in ["w.x", "a", "s", ""]:
-            check_raises(self, UnknownName, {"name": name}, lambda: check_price(plan, ("price", 5, ("w.a", name, "y"), theft, ()), cells=2))
+            check_raises(self, UnknownName, {"name": name},
+                lambda: check_price(plan, ("price", 5, ("w.a", name, "y"), theft, ()), cells=2))
         for bad in [cost + 1, cost - 1, 0, -cost, str(cost), float(cost), None, True, (cost,)]:
             answer = ("price", bad, locks, ("theft", ("x",), "y", (), ()), ())
             check_raises(self, NotPrice, {"kind": "cost"}, lambda: check_price(plan, answer, cells=2))
         check_raises(self, NotPrice, {"kind": "cost"}, lambda: check_price(plan, ("price", cost, locks, theft, shuts), cells=1))
         for bad in NO_INTEGERS:
             free = Plan(5, start=Deed("start", renews=["s"], tells=[e("s")]), roads=[("s", None)])
-            check_raises(self, NotPrice, {"kind": "cost"}, lambda: check_price(free, ("price", bad, (), ("theft", (), "s", ((0, ()),), ((0, 1),)), ()), cells=1))
+            check_raises(self, NotPrice, {"kind": "cost"},
+                lambda: check_price(free, ("price", bad, (), ("theft", (), "s", ((0, ()),), ((0, 1),)), ()), cells=1))
 
     def test_faults_of_the_theft(self):
         plan = self.plan()
         _, cost, locks, theft, shuts = price(plan, cells=2)
         for bad, error, told in [
-            (("theft", ("x",), "s", (), ()), NoDeed, {"at": 0, "name": "x"}), (("theft", (), "k.a", (), ()), UnknownName, {"name": "k.a"}),
+            (("theft", ("x",), "s", (), ()), NoDeed, {"at": 0, "name": "x"}),
+            (("theft", (), "k.a", (), ()), UnknownName, {"name": "k.a"}),
             (("theft", (), "s", theft[3], theft[4][:1]), BadStep, {"at": len(theft[3])}),
         ]:
             check_raises(self, error, told, lambda: check_price(plan, ("price", cost, locks, bad, ()), cells=2))
@@ -319,7 +336,8 @@ class Prices(unittest.TestCase):
         plan = self.plan()
         _, cost, locks, theft, shuts = price(plan, cells=2)
         for left in [(), shuts[:1], shuts[1:], ((("w.c",), shuts[0][1]),), ((("w.x",), shuts[0][1]),)]:
-            check_raises(self, NotPrice, {"kind": "open"}, lambda: check_price(plan, ("price", cost, locks, theft, left), cells=2))
+            check_raises(self, NotPrice, {"kind": "open"},
+                lambda: check_price(plan, ("price", cost, locks, theft, left), cells=2))
         plan = self.plan(TWO)
         told, shuts = price(lock_house(5, list("abc"), TWO, self.locks[1:]), cells=2)
         self.assertEqual(told, "none")
@@ -331,16 +349,21 @@ class Prices(unittest.TestCase):
         plan = self.plan()
         _, cost, locks, theft, shuts = price(plan, cells=2)
         told = {"kind": "start", "at": 0, "deed": ""}
-        check_raises(self, NotShut, told, lambda: check_price(plan, ("price", cost, locks, theft, shuts + (((), ()),)), cells=2))
-        check_raises(self, NotShut, told, lambda: check_price(plan, ("price", cost, locks, theft, ((shuts[0][0], shuts[1][1]),) + shuts), cells=2))
+        check_raises(self, NotShut, told,
+            lambda: check_price(plan, ("price", cost, locks, theft, shuts + (((), ()),)), cells=2))
+        check_raises(self, NotShut, told,
+            lambda: check_price(plan, ("price", cost, locks, theft, ((shuts[0][0], shuts[1][1]),) + shuts), cells=2))
         first = first_holding(plan, guessed=locks)
         check_raises(self, NotShut, {"kind": "secret", "at": 0, "deed": ""},
                      lambda: check_price(plan, ("price", cost, locks, theft, shuts + ((locks, (first,)),)), cells=2))
         # A strange lock of a shut list comes in the turn of its pair.
         strange = (("w.a", "w.y", "w.x"), ())
-        check_raises(self, UnknownName, {"name": "w.y"}, lambda: check_price(plan, ("price", cost, locks, theft, shuts + (strange,)), cells=2))
-        check_raises(self, NotShut, told, lambda: check_price(plan, ("price", cost, locks, theft, shuts + (((), ()), strange)), cells=2))
-        check_raises(self, UnknownName, {"name": "w.y"}, lambda: check_price(plan, ("price", cost, locks, theft, (strange,) + shuts + (((), ()),)), cells=2))
+        check_raises(self, UnknownName, {"name": "w.y"},
+            lambda: check_price(plan, ("price", cost, locks, theft, shuts + (strange,)), cells=2))
+        check_raises(self, NotShut, told,
+            lambda: check_price(plan, ("price", cost, locks, theft, shuts + (((), ()), strange)), cells=2))
+        check_raises(self, UnknownName, {"name": "w.y"},
+            lambda: check_price(plan, ("price", cost, locks, theft, (strange,) + shuts + (((), ()),)), cells=2))
         tight = lock_house(5, list("abc"), TWO, self.locks[1:])
         _, shuts = price(tight, cells=2)
         check_raises(self, NotShut, told, lambda: check_price(tight, ("none", ((shuts[0][0], ()),)), cells=2))
@@ -348,7 +371,8 @@ class Prices(unittest.TestCase):
     def test_cells_come_first(self):
         plan = self.plan()
         for cells in BAD_CELLS:
-            check_raises(self, BadCells, {"cells": cells}, lambda: check_price(plan, ("price", None, ("x",), None, ()), cells=cells))
+            check_raises(self, BadCells, {"cells": cells},
+                lambda: check_price(plan, ("price", None, ("x",), None, ()), cells=cells))
             check_raises(self, BadCells, {"cells": cells}, lambda: check_price(plan, ("none", ()), cells=cells))
 
 

@@ -60,35 +60,43 @@ class Answers(unittest.TestCase):
         self.assertEqual(self.ask(plan, "friends 9"), ["cut d: x back"])
         self.assertEqual(self.ask(broken([("s", (2, ("d", "c")), None), ("s", "c", None)]), "friends 9"), ["over s d:"])
         self.assertEqual(self.ask(broken([("s", "c", None)]), "friends 9"), ["short s c:"])
-        self.assertEqual(self.ask(broken([("j", (2, ("d", "c")), "m")], deeds=[Deed("set", sets=["m"])]), "friends 9"), ["over j c: set"])
+        self.assertEqual(self.ask(broken([("j", (2, ("d", "c")), "m")], deeds=[Deed("set", sets=["m"])]),
+            "friends 9"), ["over j c: set"])
         self.assertEqual(self.ask(broken([("j", "d", None)]), "friends 9"), ["short j d:"])
-        free = Plan(5, start=Deed("start", renews=["s"], letters=[(((),), e("s"), True)]), devices=[("d", [], None)], promises=[("s", "d", None)])
+        free = Plan(5, start=Deed("start", renews=["s"], letters=[(((),), e("s"), True)]), devices=[("d", [], None)],
+            promises=[("s", "d", None)])
         self.assertEqual(self.ask(free, "friends 9"), ["over s -:"])
-        both = Plan(5, start=Deed("start", renews=["s"]), devices=[("d", [], None), ("c", [], None)], promises=[("s", (2, ("d", "c")), None)])
+        both = Plan(5, start=Deed("start", renews=["s"]), devices=[("d", [], None), ("c", [], None)],
+            promises=[("s", (2, ("d", "c")), None)])
         self.assertEqual(self.ask(both, "friends 9"), ["short s c d:"])
 
     def test_price(self):
         locks = [("a", 0, 4, (1, 2, 3)), ("b", 0, 4, (2, 3)), ("c", 1, 3, (0, 1, 2, 3, 4))]
-        self.assertEqual(self.ask(lock_house(5, list("abc"), (2, ("a", "b", "c")), locks), "price 2 200"), ["price 30: w.a w.b"])
+        self.assertEqual(self.ask(lock_house(5, list("abc"), (2, ("a", "b", "c")), locks), "price 2 200"),
+            ["price 30: w.a w.b"])
         self.assertEqual(self.ask(lock_house(5, list("abc"), TWO, locks[1:]), "price 2 200"), ["price none"])
         self.assertEqual(answer(mend(), ["price 120 400"]), ["price 0:"])
         self.assertEqual(self.ask(mend_house(5, ["a", "b"], TWO, guard=(1, ("a", "b"))), "price 1 2"), ["refused toomany"])
 
     def test_heals(self):
-        self.assertEqual(answer(mend(), ["heals mend 9", "heals take.a 9", "heals x 9"]), ["survives: take.a mend", "survives: take.a", "refused nodeed"])
+        self.assertEqual(answer(mend(), ["heals mend 9", "heals take.a 9", "heals x 9"]),
+            ["survives: take.a mend", "survives: take.a", "refused nodeed"])
         tight = mend_house(5, ["a", "b"], TWO, guard=(1, ("a", "b")))
-        self.assertEqual(answer(show_plan(tight), ["heals mend 3", "heals mend 2", "heals start 3"]), ["heals 3", "refused toomany", "refused nodeed"])
+        self.assertEqual(answer(show_plan(tight), ["heals mend 3", "heals mend 2", "heals start 3"]),
+            ["heals 3", "refused toomany", "refused nodeed"])
 
     def test_audit(self):
         self.assertEqual(answer(mend(), ["audit take.a mend take.b"]), ["0 s shut", "1 s shut", "2 s shut", "3 s stolen"])
-        plan = Plan(5, marks=["m"], start=Deed("start", renews=["t", "s"], sets=["m"]), roads=[("t", "m"), ("s", None)], deeds=[Deed("go", tells=[e("s"), e("t")])])
+        plan = Plan(5, marks=["m"], start=Deed("start", renews=["t", "s"], sets=["m"]),
+            roads=[("t", "m"), ("s", None)], deeds=[Deed("go", tells=[e("s"), e("t")])])
         self.assertEqual(self.ask(plan, "audit"), ["0 t free, s shut"])
         self.assertEqual(self.ask(plan, "audit go"), ["0 t free, s shut", "1 t open, s stolen"])
         self.assertEqual(self.ask(broken(deeds=[Deed("x")]), "audit x x"), ["0", "1", "2"])
         self.assertEqual(answer(mend(), ["audit take.a take.a", "audit x take.a"]), ["refused barred", "refused nodeed"])
 
     def test_blame(self):
-        self.assertEqual(answer(mend(), ["blame s take.a mend take.b", "blame s take.a", "blame s"]), ["blame 1 3", "blame none", "blame none"])
+        self.assertEqual(answer(mend(), ["blame s take.a mend take.b", "blame s take.a", "blame s"]),
+            ["blame 1 3", "blame none", "blame none"])
         plan = Plan(
             5, start=Deed("start", renews=["k", "s", "t"], letters=[(((),), e("t"), True)]), roads=[("s", None), ("t", None)],
             deeds=[Deed("one", tells=[e("s")]), Deed("sum", tells=[(("k", 1), ("s", 1))]), Deed("k", tells=[e("k")])],
@@ -97,11 +105,14 @@ class Answers(unittest.TestCase):
         self.assertEqual(self.ask(plan, "blame t one"), ["blame always"])
         self.assertEqual(self.ask(plan, "blame t"), ["blame always"])
         self.assertEqual(self.ask(plan, "blame s one one one one one one one"), ["refused toobig"])
-        self.assertEqual(answer(mend(), ["blame k.a", "blame x", "blame k.a x"]), ["refused unknownname", "refused unknownname", "refused nodeed"])
+        self.assertEqual(answer(mend(), ["blame k.a", "blame x", "blame k.a x"]),
+            ["refused unknownname", "refused unknownname", "refused nodeed"])
 
     def test_exposed_and_present(self):
-        self.assertEqual(answer(mend(), ["exposed", "exposed take.a", "exposed take.a mend", "exposed x"]), ["exposed none", "exposed k.a s.1", "exposed s.1", "refused nodeed"])
-        self.assertEqual(answer(mend(), ["present", "present take.a take.b", "present take.b take.b"]), ["present none", "present k.a, k.b, s, s.1", "refused barred"])
+        self.assertEqual(answer(mend(), ["exposed", "exposed take.a", "exposed take.a mend", "exposed x"]),
+            ["exposed none", "exposed k.a s.1", "exposed s.1", "refused nodeed"])
+        self.assertEqual(answer(mend(), ["present", "present take.a take.b", "present take.b take.b"]),
+            ["present none", "present k.a, k.b, s, s.1", "refused barred"])
         plan = Plan(5, start=Deed("start", renews=["b", "a", "c"], tells=[(("a", 2), ("b", 1)), e("c")]))
         self.assertEqual(self.ask(plan, "present"), ["present a + 3*b, c"])
         self.assertEqual(self.ask(plan, "exposed"), ["exposed c"])
@@ -119,31 +130,43 @@ class Answers(unittest.TestCase):
 
     def test_questions_of_a_wrong_shape(self):
         for question in [
-            "", " ", "x", "Judge 1", "judge", "judge ", "judge  1", " judge 1", "judge 1 ", "judge 1  w", "judge x", "judge 0", "judge 401", "judge 01", "judge 1.0", "judge -1", "judge 10000", "judge w 1",
-            "friends", "friends ", "friends 0", "friends 401", "friends 1 1", "friends 1 ", "friends x", "price", "price 1", "price 1 ", "price 0 1", "price 1 0", "price 121 1", "price 1 401", "price 1 1 1",
-            "price 01 1", "price x 1", "price 1 x", "heals", "heals mend", "heals mend ", "heals mend 0", "heals mend 401", "heals mend 1 1", "heals  1", "heals 1 mend", "heals x 0", "audit ", "audit  take.a", "audit take.a ",
-            "audit take.a  mend", "blame", "blame ", "blame  take.a", "blame s ", "exposed ", "exposed  x", "present ", "present take.a ", "steps", "steps 1", "steps 1 1 1", "steps 0 1", "steps 1 0", "steps 121 1",
-            "steps 1 121", "steps 1 01", "steps 1 1 ", "steps  1 1", "lots", "lots ", "lot a", "steps 1 1\n", "judge +1", "judge 1_0",
+            "", " ", "x", "Judge 1", "judge", "judge ", "judge  1", " judge 1", "judge 1 ", "judge 1  w", "judge x",
+            "judge 0", "judge 401", "judge 01", "judge 1.0", "judge -1", "judge 10000", "judge w 1",
+            "friends", "friends ", "friends 0", "friends 401", "friends 1 1", "friends 1 ", "friends x", "price",
+            "price 1", "price 1 ", "price 0 1", "price 1 0", "price 121 1", "price 1 401", "price 1 1 1",
+            "price 01 1", "price x 1", "price 1 x", "heals", "heals mend", "heals mend ", "heals mend 0",
+            "heals mend 401", "heals mend 1 1", "heals  1", "heals 1 mend", "heals x 0", "audit ", "audit  take.a",
+            "audit take.a ",
+            "audit take.a  mend", "blame", "blame ", "blame  take.a", "blame s ", "exposed ", "exposed  x",
+            "present ", "present take.a ", "steps", "steps 1", "steps 1 1 1", "steps 0 1", "steps 1 0", "steps 121 1",
+            "steps 1 121", "steps 1 01", "steps 1 1 ", "steps  1 1", "lots", "lots ", "lot a", "steps 1 1\n",
+            "judge +1", "judge 1_0",
         ]:
             self.assertEqual(answer(mend(), [question]), REFUSED, question)
 
     def test_numbers_at_their_bounds(self):
-        self.assertEqual(answer(mend(), ["judge 400", "friends 400", "price 120 400", "heals take.b 400", "steps 120 120", "steps 1 1", "judge 1"]), [
+        self.assertEqual(answer(mend(),
+            ["judge 400", "friends 400", "price 120 400", "heals take.b 400", "steps 120 120", "steps 1 1", "judge 1"]), [
             "theft s: take.a take.b", "open 4", "price 0:", "survives: take.b", "steps 120", "steps 1", "refused toomany",
         ])
 
     def test_sheets_that_are_refused(self):
         for text, word in [
-            ("", "badsheet"), ("prime 4\nstart", "badprime"), ("prime 5\nstart\nfoo", "badsheet"), ("prime 5\nmarks M\nstart", "badname"), ("prime 5\nstart\n renew s\n tell x", "unknownname"),
-            ("prime 5\nmarks m m\nstart", "twicenamed"), ("prime 5\nstart\n hand d", "badstart"), ("prime 5\nlock w salt 9 length 1 of 1\nstart\n renew w", "badlock"), ("prime 5\nstart\n renew s\n tell s~", "oldmisused"),
-            ("prime 5\nlock w salt 0 length 1 of 1\nroad w never\nstart\n renew w", "lockmisused"), ("prime 5\nmarks a b c d e f g h i j k l m\nstart", "toobig"),
+            ("", "badsheet"), ("prime 4\nstart", "badprime"), ("prime 5\nstart\nfoo", "badsheet"),
+            ("prime 5\nmarks M\nstart", "badname"), ("prime 5\nstart\n renew s\n tell x", "unknownname"),
+            ("prime 5\nmarks m m\nstart", "twicenamed"), ("prime 5\nstart\n hand d", "badstart"),
+            ("prime 5\nlock w salt 9 length 1 of 1\nstart\n renew w", "badlock"),
+            ("prime 5\nstart\n renew s\n tell s~", "oldmisused"),
+            ("prime 5\nlock w salt 0 length 1 of 1\nroad w never\nstart\n renew w", "lockmisused"),
+            ("prime 5\nmarks a b c d e f g h i j k l m\nstart", "toobig"),
         ]:
             for questions in [[], ["steps 1 1"], ["x", "judge 1", ""], ("lots a",)]:
                 self.assertEqual(answer(text, questions), ["refused " + word])
 
     def test_lines_follow_one_another(self):
         questions = ["lots a", "x", "audit take.a", "judge 9 y", "steps 2 1"]
-        self.assertEqual(answer(mend(), questions), ["least a", "unfit -", "refused question", "0 s shut", "1 s shut", "refused unknownname", "steps 3"])
+        self.assertEqual(answer(mend(), questions),
+            ["least a", "unfit -", "refused question", "0 s shut", "1 s shut", "refused unknownname", "steps 3"])
         self.assertEqual(answer(mend(), tuple(questions)), answer(mend(), questions))
         self.assertEqual(questions, ["lots a", "x", "audit take.a", "judge 9 y", "steps 2 1"])
         self.assertEqual(answer(mend(), []), [])
@@ -172,7 +195,8 @@ class Answers(unittest.TestCase):
                 return [f"heals {len(told[1])}" if told[0] == "heals" else " ".join(["survives:", *told[1]])]
             if words[0] == "audit":
                 told = audit(plan, course)
-                rows = [", ".join(f"{secret} {state}" for at, secret, state in told if at == time) for time in range(len(words))]
+                rows = [", ".join(f"{secret} {state}" for at, secret,
+                    state in told if at == time) for time in range(len(words))]
                 return [f"{time} {row}".strip() for time, row in enumerate(rows)]
             if words[0] == "blame":
                 told = blames(plan, words[2:], words[1])
@@ -196,8 +220,10 @@ class Answers(unittest.TestCase):
                 course = [chance.choice(deeds) for _ in range(chance.randint(0, 3))] if deeds else []
                 limit = chance.choice(["400", "200", "2", "1"])
                 question = chance.choice([
-                    ["judge", limit] + [lock[0] for lock in plan.locks if chance.random() < 0.5], ["friends", limit], ["price", str(chance.randint(1, 120)), limit],
-                    ["heals", chance.choice(deeds + ["go"]), limit], ["audit"] + course, ["blame", chance.choice(list(plan.slots))] + course, ["exposed"] + course, ["present"] + course,
+                    ["judge", limit] + [lock[0] for lock in plan.locks if chance.random() < 0.5], ["friends", limit],
+                    ["price", str(chance.randint(1, 120)), limit],
+                    ["heals", chance.choice(deeds + ["go"]), limit], ["audit"] + course,
+                    ["blame", chance.choice(list(plan.slots))] + course, ["exposed"] + course, ["present"] + course,
                 ])
                 questions.append(" ".join(question))
                 wanted += self.lines_plainly(plan, question)
@@ -206,8 +232,11 @@ class Answers(unittest.TestCase):
             seen |= {line.partition(" ")[0].rstrip(":") for line in lines}
             formula = random_formula(chance, list("abcd"), 2)
             told = ["; ".join(" ".join(lot) or "-" for lot in lots(formula)) for lots in [least_lots, unfit_lots]]
-            self.assertEqual(answer(show_plan(plan), ["lots " + show_formula(formula)]), ["least " + told[0], "unfit " + told[1]])
-        self.assertGreaterEqual(seen, {"shut", "theft", "open", "cut", "short", "over", "price", "heals", "survives", "blame", "exposed", "present", "refused"})
+            self.assertEqual(answer(show_plan(plan), ["lots " + show_formula(formula)]),
+                ["least " + told[0], "unfit " + told[1]])
+        self.assertGreaterEqual(seen,
+            {"shut", "theft", "open", "cut", "short", "over", "price", "heals", "survives", "blame", "exposed",
+                "present", "refused"})
 
     def test_the_limit_is_passed_on(self):
         plan = refresh_house(5, ["a", "b"], TWO, road=TWO)

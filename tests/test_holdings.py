@@ -128,7 +128,8 @@ class Holds(unittest.TestCase):
     def test_a_deed_that_renews_nothing_and_one_that_renews_all(self):
         plan = Plan(
             5, start=Deed("start", renews=["k", "s"], letters=[((e("k"),), e("s"), True)], tells=[e("k")]),
-            deeds=[Deed("still"), Deed("all", renews=["s", "k"]), Deed("again", renews=["s", "k"], letters=[((e("s"),), e("k"), True)])],
+            deeds=[Deed("still"), Deed("all", renews=["s", "k"]),
+                Deed("again", renews=["s", "k"], letters=[((e("s"),), e("k"), True)])],
         )
         first = first_hold(plan)
         self.assertEqual(first.basis, (e("k"), e("s")))
@@ -173,7 +174,8 @@ class Holds(unittest.TestCase):
                 check_raises(self, Barred, {"at": 1, "name": "take.a"}, lambda: call(plan, ["take.a", "take.a", name]))
         for name in NO_LOCKS:
             check_raises(self, UnknownName, {"name": name}, lambda: step_hold(plan, hold, "mend", guessed=[name]))
-            check_raises(self, UnknownName, {"name": name}, lambda: step_holding(plan, first_holding(plan), "mend", guessed=[name]))
+            check_raises(self, UnknownName, {"name": name},
+                lambda: step_holding(plan, first_holding(plan), "mend", guessed=[name]))
             check_raises(self, UnknownName, {"name": name}, lambda: survivors(plan, [], "mend", guessed=[name]))
 
 
@@ -253,7 +255,8 @@ class Holdings(unittest.TestCase):
         plan = Plan(5, marks=["m"], start=Deed("start", renews=["k", "s", "t"]), roads=[("t", "m"), ("s", None), ("k", "m")])
         for spent, basis, boxes, wanted in [
             ((), (), (), None), ([], [e("s")], [], "s"), (("s",), [e("s")], [], None), ((), [e("s"), e("t")], [], "t"),
-            (("t",), [e("s"), e("t")], [], "s"), ((), [(("s", 1), ("t", 1))], [], None), ((), [e("k")], [((e("k"),), e("s"))], "s"),
+            (("t",), [e("s"), e("t")], [], "s"), ((), [(("s", 1), ("t", 1))], [], None),
+            ((), [e("k")], [((e("k"),), e("s"))], "s"),
             ((), [(("s", 1), ("t", 1)), (("s", 1), ("t", 2))], [], "t"), (["t", "s", "k"], [e("s"), e("t")], [], None),
             ((), [], [((), e("k"))], "k"), ((), [], [((e("k"),), e("s"))], None),
         ]:
@@ -285,7 +288,8 @@ class Holdings(unittest.TestCase):
             for deed in plan.deeds:
                 wanted = [
                     at for at, (marks, _, basis, boxes) in enumerate(entries)
-                    if is_allowed(deed, marks) and not covers(first_hold(plan), step_hold(plan, Hold(plan.p, basis, boxes), deed.name))
+                    if is_allowed(deed, marks) and not covers(first_hold(plan),
+                        step_hold(plan, Hold(plan.p, basis, boxes), deed.name))
                 ]
                 self.assertEqual(survivors(plan, entries, deed.name), wanted)
                 found += len(wanted)

@@ -85,7 +85,8 @@ LISTED = {
         "replay(plan, course)",
     ],
     "sources": [
-        "sources(plan, course, *, guessed=())", "known(plan, course, *, guessed=())", "present_part(plan, course, *, guessed=())",
+        "sources(plan, course, *, guessed=())", "known(plan, course, *, guessed=())",
+        "present_part(plan, course, *, guessed=())",
     ],
     "holdings": [
         "first_hold(plan, *, guessed=())", "step_hold(plan, hold, deed_name, *, guessed=())",
@@ -94,7 +95,8 @@ LISTED = {
         "survivors(plan, holdings, deed_name, *, guessed=())", "healed(plan, course, *, guessed=())",
     ],
     "search": [
-        "judge(plan, *, guessed=(), limit=200)", "heals(plan, deed_name, *, guessed=(), limit=200)", "lock_sets(plan, *, cells)",
+        "judge(plan, *, guessed=(), limit=200)", "heals(plan, deed_name, *, guessed=(), limit=200)",
+        "lock_sets(plan, *, cells)",
         "price(plan, *, cells, limit=200)",
     ],
     "boards": [
@@ -178,7 +180,8 @@ class Interface(unittest.TestCase):
         self.check_class("sealing", "Tables", "(p, *, up, down, pads, tags)", {}, [])
         self.assertIsInstance(vars(Tables)["plain"], classmethod)
         self.assertEqual(str(inspect.signature(Tables.plain)), "(p)")
-        methods = {"do": "(self, name)", "number_of": "(self, slot)", "dated_world": "(self)", "record": "(self)", "posted": "(self)"}
+        methods = {"do": "(self, name)", "number_of": "(self, slot)", "dated_world": "(self)", "record": "(self)",
+            "posted": "(self)"}
         properties = ["marks_now", "spent_now", "course_done", "draws_left"]
         self.check_class("machine", "Machine", "(plan, tables, draws)", methods, properties)
 

@@ -57,11 +57,13 @@ class Numbers(unittest.TestCase):
         self.assertEqual((machine.marks_now, machine.spent_now, machine.course_done, machine.draws_left), ((), (), (), 4))
         self.assertIsNone(machine.do("a"))
         self.assertEqual(machine.dated_world(), {"s#0": 2, "k#0": 3, "j#0": 4, "j#1": 0, "s#1": 1})
-        self.assertEqual((machine.marks_now, machine.spent_now, machine.course_done, machine.draws_left), (("m",), ("k",), ("a",), 2))
+        self.assertEqual((machine.marks_now, machine.spent_now, machine.course_done, machine.draws_left),
+            (("m",), ("k",), ("a",), 2))
         machine.do("c")
         self.assertEqual(machine.draws_left, 2)
         machine.do("b")
-        self.assertEqual((machine.marks_now, machine.spent_now, machine.course_done, machine.draws_left), ((), (), ("a", "c", "b"), 1))
+        self.assertEqual((machine.marks_now, machine.spent_now, machine.course_done, machine.draws_left),
+            ((), (), ("a", "c", "b"), 1))
         self.assertEqual([machine.number_of(x) for x in ["s", "k", "j"]], [1, 4, 0])
         self.assertEqual(machine.dated_world()["k#1"], 4)
 
@@ -106,7 +108,8 @@ class Numbers(unittest.TestCase):
         draws.clear()
         self.assertEqual(machine.draws_left, 4)
         machine.do("mend")
-        self.assertEqual((machine.draws_left, machine.number_of("k.a"), machine.number_of("s.1"), machine.number_of("s")), (1, 0, 2, 4))
+        self.assertEqual((machine.draws_left, machine.number_of("k.a"), machine.number_of("s.1"),
+            machine.number_of("s")), (1, 0, 2, 4))
 
     def test_number_of_what_is_no_slot(self):
         machine = Machine(mend_house(5, ["a"], "a"), Tables.plain(5), (1, 2))
@@ -134,7 +137,8 @@ class Deeds(unittest.TestCase):
         self.assertEqual(machine.course_done, ("take.a", "take.b"))
 
     def test_barred_goes_before_missing_draws(self):
-        plan = Plan(5, marks=["m"], start=Deed("start", renews=["s", "t"]), deeds=[Deed("new", when="m", renews=["t", "s"]), Deed("set", sets=["m"])])
+        plan = Plan(5, marks=["m"], start=Deed("start", renews=["s", "t"]),
+            deeds=[Deed("new", when="m", renews=["t", "s"]), Deed("set", sets=["m"])])
         machine = Machine(plan, Tables.plain(5), [1, 2])
         check_raises(self, Barred, {"at": 0, "name": "new"}, lambda: machine.do("new"))
         machine.do("set")
@@ -200,7 +204,8 @@ class Records(unittest.TestCase):
 
     def test_right_after_the_start(self):
         plan = Plan(
-            5, start=Deed("start", renews=["k", "s"], tells=[(("k", 2), ("s", 1))], letters=[((e("k"),), e("s"), True), ((e("s"),), e("k"), False), (((),), (), True)]),
+            5, start=Deed("start", renews=["k", "s"], tells=[(("k", 2), ("s", 1))],
+                letters=[((e("k"),), e("s"), True), ((e("s"),), e("k"), False), (((),), (), True)]),
             standing=[((e("s"), e("k")), (("k", 1), ("s", 1)))],
         )
         machine = Machine(plan, Tables.plain(5), [3, 4])
@@ -216,7 +221,8 @@ class Records(unittest.TestCase):
     def test_old_names_and_quiet_letters(self):
         plan = Plan(
             5, start=Deed("start", renews=["k", "s"]),
-            deeds=[Deed("new", renews=["k"], tells=[(("k", 1), ("k~", 4))], letters=[((e("k~"),), e("k"), True), ((e("k"),), e("s"), False)])],
+            deeds=[Deed("new", renews=["k"], tells=[(("k", 1), ("k~", 4))],
+                letters=[((e("k~"),), e("k"), True), ((e("k"),), e("s"), False)])],
         )
         machine = Machine(plan, Tables.plain(5), [1, 2, 4, 0])
         machine.do("new")
@@ -249,7 +255,8 @@ class Records(unittest.TestCase):
     def test_a_posted_letter_is_sealed_with_the_numbers_of_its_time(self):
         # A board's rules name no renewed number, so old boxes stay as they were.
         chance = random.Random(284)
-        machine = Machine(mend_house(5, ["a", "b"], TWO, keys_new=False, masks_new=False), random_tables(chance, 5), [1, 2, 3, 4])
+        machine = Machine(mend_house(5, ["a", "b"], TWO, keys_new=False, masks_new=False), random_tables(chance, 5),
+            [1, 2, 3, 4])
         before = machine.posted()
         machine.do("mend")
         self.assertEqual(machine.posted(), before)

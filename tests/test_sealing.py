@@ -10,7 +10,8 @@ from tests.helpers import PRIMES, check_bad_primes, check_raises
 
 UP, DOWN, PADS, TAGS = [1, 2, 3, 4, 0], [0, 1, 2, 3, 4], [3, 1, 4, 0, 2], [2, 0, 4, 1, 3]
 BAD_TABLES = [
-    None, 5, "01234", b"01234", {0: 1}, {0, 1, 2, 3, 4}, [], [0, 1, 2, 3], [0, 1, 2, 3, 4, 0], [0, 1, 2, 3, 5], [0, 1, 2, 3, -1],
+    None, 5, "01234", b"01234", {0: 1}, {0, 1, 2, 3, 4}, [], [0, 1, 2, 3], [0, 1, 2, 3, 4, 0], [0, 1, 2, 3, 5],
+    [0, 1, 2, 3, -1],
     [0, 1, 2, 3, True], [0, 1, 2, 3, None], [0, 1, 2, 3, 4.0], [0, 1, 2, 3, "4"], (0, 1, 2, 3), range(5), [0, 1, 2, 3, [4]],
 ]
 
@@ -26,7 +27,8 @@ class MakingTables(unittest.TestCase):
         tables = Tables(5, up=up, down=tuple(DOWN), pads=PADS, tags=tags)
         up[0] = 9
         tags.clear()
-        self.assertEqual((tables.p, tables.up, tables.down, tables.pads, tables.tags), (5, tuple(UP), tuple(DOWN), tuple(PADS), tuple(TAGS)))
+        self.assertEqual((tables.p, tables.up, tables.down, tables.pads, tables.tags),
+            (5, tuple(UP), tuple(DOWN), tuple(PADS), tuple(TAGS)))
 
     def test_numbers_may_repeat_but_in_tags(self):
         same = [2, 2, 2, 2, 2]
@@ -57,7 +59,8 @@ class MakingTables(unittest.TestCase):
             self.assertIsInstance(tables, Tables)
             for x in range(p):
                 self.assertEqual(
-                    (tables.up[x], tables.down[x], tables.pads[x], tables.tags[x]), ((x + 1) % p, (2 * x + 1) % p, (3 * x + 1) % p, p - 1 - x))
+                    (tables.up[x], tables.down[x], tables.pads[x], tables.tags[x]),
+                    ((x + 1) % p, (2 * x + 1) % p, (3 * x + 1) % p, p - 1 - x))
             self.assertEqual([len(table) for table in [tables.up, tables.down, tables.pads, tables.tags]], [p] * 4)
 
 

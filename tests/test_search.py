@@ -59,7 +59,8 @@ class Judging(unittest.TestCase):
     def test_examples(self):
         plan = mend_house(2, ["a", "b"], TWO, guard=(1, ("a", "b")), masks_new=False)
         self.assertEqual(judge(plan), (
-            "theft", ("take.a", "mend", "take.b"), "s", ((2, ()), (5, ()), (0, (((0, 1),),)), (4, (((1, 1),),))), ((2, 1), (3, 1)),
+            "theft", ("take.a", "mend", "take.b"), "s", ((2, ()), (5, ()), (0, (((0, 1),),)), (4, (((1, 1),),))),
+            ((2, 1), (3, 1)),
         ))
 
     def check(self, plan, guessed, most):
@@ -93,7 +94,8 @@ class Judging(unittest.TestCase):
             answer = self.check(plan, guessed, 3)
             key = (answer[0], len(answer[1]))
             found[key] = found.get(key, 0) + 1
-        for key, least in [(("theft", 0), 30), (("theft", 1), 50), (("theft", 2), 10), (("shut", 1), 50), (("shut", 4), 30), (("shut", 5), 8)]:
+        for key, least in [(("theft", 0), 30), (("theft", 1), 50), (("theft", 2), 10), (("shut", 1), 50),
+            (("shut", 4), 30), (("shut", 5), 8)]:
             self.assertGreater(found[key], least, key)
 
     def test_mend_houses_against_the_model(self):
@@ -107,7 +109,8 @@ class Judging(unittest.TestCase):
             told["guard"] = random_formula(chance, devices, 1) if chance.random() < 0.6 else None
             answer = judge(mend_house(7, devices, formula, **told))
             course = lot_model(devices, formula, **told)
-            self.assertEqual((answer[0], answer[1] if answer[0] == "theft" else None), ("shut" if course is None else "theft", course))
+            self.assertEqual((answer[0], answer[1] if answer[0] == "theft" else None),
+                ("shut" if course is None else "theft", course))
             found.add(None if course is None else len(course))
         self.assertGreaterEqual(found, {None, 1, 2, 3})
 
@@ -121,7 +124,8 @@ class Judging(unittest.TestCase):
                     "quiet": chance.random() < 0.5, "strict": chance.random() < 0.5}
             answer = judge(refresh_house(7, devices, formula, **told), limit=400)
             course = refresh_model(devices, formula, **told)
-            self.assertEqual((answer[0], answer[1] if answer[0] == "theft" else None), ("shut" if course is None else "theft", course))
+            self.assertEqual((answer[0], answer[1] if answer[0] == "theft" else None),
+                ("shut" if course is None else "theft", course))
             found.add(None if course is None else len(course))
         self.assertGreaterEqual(found, {None, 1, 2, 3})
 
@@ -139,10 +143,12 @@ class Judging(unittest.TestCase):
             self.assertEqual(answer[1:3] if answer[0] == "theft" else None, lease_model(height, way, leases))
 
     def test_a_secret_that_is_stolen_right_after_the_start(self):
-        plan = Plan(5, marks=["m"], start=Deed("start", renews=["s", "t"], tells=[e("s"), e("t")]), roads=[("t", "m"), ("s", None)],
+        plan = Plan(5, marks=["m"], start=Deed("start", renews=["s", "t"], tells=[e("s"), e("t")]),
+            roads=[("t", "m"), ("s", None)],
                     deeds=[Deed("new", renews=["s", "t"])])
         self.assertEqual(judge(plan), ("theft", (), "t", ((1, ()),), ((0, 1),)))
-        spent = Plan(5, marks=["m"], start=Deed("start", renews=["s", "t"], tells=[e("s"), e("t")], sets=["m"]), roads=[("t", "m")])
+        spent = Plan(5, marks=["m"], start=Deed("start", renews=["s", "t"], tells=[e("s"), e("t")], sets=["m"]),
+            roads=[("t", "m")])
         self.assertEqual(judge(spent), ("shut", ((("m",), ("t",), (e("s"), e("t")), ()),)))
 
     def test_plans_without_deeds_roads_and_locks(self):

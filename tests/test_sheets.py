@@ -69,7 +69,8 @@ def full_plan():
         ),
         deeds=[
             Deed(
-                "go", when=(2, ("m", "n")), unless="m", sets=["m"], clears=["n"], renews=["k", "w"], tells=[e("k~")], hands=["d", "b"],
+                "go", when=(2, ("m", "n")), unless="m", sets=["m"], clears=["n"], renews=["k", "w"], tells=[e("k~")],
+                hands=["d", "b"],
                 letters=[((e("k~"), e("v")), e("k"), False), ((e("j"),), (("j", 1), ("k", 1), ("k~", 6)), True)],
             ),
             Deed("still"), Deed("when", hands=["a"]),
@@ -102,9 +103,14 @@ class Showing(unittest.TestCase):
         chance = random.Random(311)
         plans = [tiny_plan(chance, chance.randint(0, 2)) for _ in range(250)] + [
             full_plan(), mend_house(5, ["a", "b"], TWO, road="a", guard="b"), refresh_house(5, ["a", "b"], TWO, quiet=False),
-            tree_house(5, ("a", ("b", "c")), kept=[("a", "s")]), lease_house(5, 2, "chains", [(0, 1)]), lock_house(5, ["a", "b"], TWO, [("a", 1, 2, (3, 4))]),
-            Plan(2, start=Deed("begin")), Plan(2, marks=["when"], devices=[("when", [], "when"), ("holds", [], None), ("out", [()], "when")], deeds=[Deed("out", when="when")],
-                                               promises=[("by", (1, ("when", "out", "holds")), "when")], start=Deed("x", renews=["by"])),
+            tree_house(5, ("a", ("b", "c")), kept=[("a", "s")]), lease_house(5, 2, "chains", [(0, 1)]),
+            lock_house(5, ["a", "b"], TWO, [("a", 1, 2, (3, 4))]),
+            Plan(2, start=Deed("begin")),
+            Plan(
+                2, marks=["when"], devices=[("when", [], "when"), ("holds", [], None), ("out", [()], "when")],
+                start=Deed("x", renews=["by"]), deeds=[Deed("out", when="when")],
+                promises=[("by", (1, ("when", "out", "holds")), "when")],
+            ),
         ]
         for plan in plans:
             text = show_plan(plan)
@@ -131,17 +137,22 @@ class Reading(unittest.TestCase):
         plan = read_plan(text.replace("by  1( m,m )  ", "never").replace("prime 5", "prime 5\nmarks m"))
         self.assertEqual((plan.devices, plan.deeds[0].tells), ((("d", (e("j"),), None),), ((),)))
         plan = read_plan("prime 5\nmarks m\ndevice d\nroad s by  1( m,m )  \npromise s by  d  when  m \nstart\n renew s\ndeed x\n when  m\n unless m  ")
-        self.assertEqual((plan.roads, plan.promises, plan.deeds[0].when, plan.deeds[0].unless), ((("s", (1, ("m", "m"))),), (("s", "d", "m"),), "m", "m"))
+        self.assertEqual((plan.roads, plan.promises, plan.deeds[0].when, plan.deeds[0].unless),
+            ((("s", (1, ("m", "m"))),), (("s", "d", "m"),), "m", "m"))
 
     def check(self, text, line, why):
         check_raises(self, BadSheet, {"line": line, "why": why}, lambda: read_plan(text))
 
     def test_first_words(self):
         for text, line in [
-            ("", 1), ("\n", 1), ("start", 1), ("marks m", 1), (" prime 5", 1), ("Prime 5", 1), ("primes 5", 1), ("prime", 1), ("deed x", 1), (" set m", 1),
-            ("prime 5\n", 2), ("prime 5\n\nstart", 2), ("prime 5\nstart\n", 3), ("prime 5\nstart\n ", 3), ("prime 5\nstart\n  set m", 3), ("prime 5\nstart\nset m", 3),
-            ("prime 5\nstart\n mark m", 3), ("prime 5\nstart\n marks m", 3), ("prime 5\nstart\n deed x", 3), ("prime 5\ndeed x\nstart", 2), ("prime 5\n set m\nstart", 2),
-            ("prime 5\n tell 0\nstart", 2), ("prime 5\n quiet a -> b\nstart", 2), ("prime 5\nfoo\nstart", 2), ("prime 5\nstart\ndeed x\n set\tm", 4), ("prime 5\nstart\nquiet a -> b", 3),
+            ("", 1), ("\n", 1), ("start", 1), ("marks m", 1), (" prime 5", 1), ("Prime 5", 1), ("primes 5", 1),
+            ("prime", 1), ("deed x", 1), (" set m", 1),
+            ("prime 5\n", 2), ("prime 5\n\nstart", 2), ("prime 5\nstart\n", 3), ("prime 5\nstart\n ", 3),
+            ("prime 5\nstart\n  set m", 3), ("prime 5\nstart\nset m", 3),
+            ("prime 5\nstart\n mark m", 3), ("prime 5\nstart\n marks m", 3), ("prime 5\nstart\n deed x", 3),
+            ("prime 5\ndeed x\nstart", 2), ("prime 5\n set m\nstart", 2),
+            ("prime 5\n tell 0\nstart", 2), ("prime 5\n quiet a -> b\nstart", 2), ("prime 5\nfoo\nstart", 2),
+            ("prime 5\nstart\ndeed x\n set\tm", 4), ("prime 5\nstart\nquiet a -> b", 3),
         ]:
             self.check(text, line, "row")
 
@@ -151,9 +162,12 @@ class Reading(unittest.TestCase):
 
     def test_order(self):
         for text, line in [
-            ("prime 5\nprime 5\nstart", 2), ("prime 5\nmarks m\nmarks n\nstart", 3), ("prime 5\ndevice d\nmarks m\nstart", 3), ("prime 5\nlock w salt 0 length 1 of 1\ndevice d\nstart", 3),
-            ("prime 5\nstanding a -> b\nlock w salt 0 length 1 of 1\nstart", 3), ("prime 5\nroad s never\nstanding a -> b", 3), ("prime 5\npromise s by d\nroad s never", 3),
-            ("prime 5\nstart\npromise s by d", 3), ("prime 5\nstart\nstart", 3), ("prime 5\nstart\ndeed x\nstart", 4), ("prime 5\nstart\n set m\nprime 5", 4), ("prime 5\nstart\n set m\nmarks m", 4),
+            ("prime 5\nprime 5\nstart", 2), ("prime 5\nmarks m\nmarks n\nstart", 3),
+            ("prime 5\ndevice d\nmarks m\nstart", 3), ("prime 5\nlock w salt 0 length 1 of 1\ndevice d\nstart", 3),
+            ("prime 5\nstanding a -> b\nlock w salt 0 length 1 of 1\nstart", 3),
+            ("prime 5\nroad s never\nstanding a -> b", 3), ("prime 5\npromise s by d\nroad s never", 3),
+            ("prime 5\nstart\npromise s by d", 3), ("prime 5\nstart\nstart", 3), ("prime 5\nstart\ndeed x\nstart", 4),
+            ("prime 5\nstart\n set m\nprime 5", 4), ("prime 5\nstart\n set m\nmarks m", 4),
             ("prime 5\nstart\ndeed x\ndevice d", 4),
         ]:
             self.check(text, line, "order")
@@ -170,14 +184,23 @@ class Reading(unittest.TestCase):
 
     def test_shapes(self):
         top = [
-            "prime 5 ", "prime 5 5", "prime  5", "marks", "marks ", "marks  m", "marks m  n", "marks m ", "device", "device ", "device  d", "device d ", "device d x", "device d out",
-            "device d out ", "device d out  m", "device d out m ", "device d out m x", "device d out m holds", "device d out m holds ", "device d holds", "device d holds ",
-            "device d holds a, ", "device d holds , a", "device d holds a, , b", "device d holds a, b, ", "device d  holds a", "device d hold a", "device d out m out n", "device d in m",
-            "lock", "lock w", "lock w salt", "lock w salt 1", "lock w salt 1 length", "lock w salt 1 length 1", "lock w salt 1 length 1 of", "lock w salt 1 length 1 of ",
-            "lock w salt 1 length 1 of 1 ", "lock w salt 1 length 1 of  1", "lock w  salt 1 length 1 of 1", "lock w length 1 salt 1 of 1", "lock w salt 1 length 1 in 1", "lock w salts 1 length 1 of 1",
-            "standing", "standing ", "standing a", "standing a ->", "standing a -> ", "standing -> a", "standing  -> a", "standing a -> b -> c", "standing a &  & b -> c",
-            "standing  & a -> b", "standing a->b", "standing a -> b -> ", "road", "road s", "road s ", "road s by", "road s by ", "road s never ", "road s never x", "road s ever", "road  s never",
-            "road s  never", "road  by m", "road  never", "promise  by d", "promise  by d when m", "promise", "promise s", "promise s by", "promise s by ", "promise s by  when m", "promise s by d when ", "promise s when m", "promise  s by d", "promise s  by d",
+            "prime 5 ", "prime 5 5", "prime  5", "marks", "marks ", "marks  m", "marks m  n", "marks m ", "device",
+            "device ", "device  d", "device d ", "device d x", "device d out",
+            "device d out ", "device d out  m", "device d out m ", "device d out m x", "device d out m holds",
+            "device d out m holds ", "device d holds", "device d holds ",
+            "device d holds a, ", "device d holds , a", "device d holds a, , b", "device d holds a, b, ",
+            "device d  holds a", "device d hold a", "device d out m out n", "device d in m",
+            "lock", "lock w", "lock w salt", "lock w salt 1", "lock w salt 1 length", "lock w salt 1 length 1",
+            "lock w salt 1 length 1 of", "lock w salt 1 length 1 of ",
+            "lock w salt 1 length 1 of 1 ", "lock w salt 1 length 1 of  1", "lock w  salt 1 length 1 of 1",
+            "lock w length 1 salt 1 of 1", "lock w salt 1 length 1 in 1", "lock w salts 1 length 1 of 1",
+            "standing", "standing ", "standing a", "standing a ->", "standing a -> ", "standing -> a",
+            "standing  -> a", "standing a -> b -> c", "standing a &  & b -> c",
+            "standing  & a -> b", "standing a->b", "standing a -> b -> ", "road", "road s", "road s ", "road s by",
+            "road s by ", "road s never ", "road s never x", "road s ever", "road  s never",
+            "road s  never", "road  by m", "road  never", "promise  by d", "promise  by d when m", "promise",
+            "promise s", "promise s by", "promise s by ", "promise s by  when m", "promise s by d when ",
+            "promise s when m", "promise  s by d", "promise s  by d",
             "start ", "start x",
         ]
         for row in top:
@@ -186,8 +209,10 @@ class Reading(unittest.TestCase):
             else:
                 self.check("prime 5\n" + row, 2, "row")
         below = [
-            " when", " when ", " unless", " unless ", " set", " set ", " set  m", " set m ", " set m  n", " clear", " clear ", " renew", " renew ", " renew a ", " letter", " letter ", " letter a",
-            " letter -> a", " letter a -> ", " letter a -> b -> c", " quiet", " quiet a", " quiet  -> b", " quiet a &  & b -> c", " tell", " tell ", " hand", " hand ", " hand d ", " hand  d",
+            " when", " when ", " unless", " unless ", " set", " set ", " set  m", " set m ", " set m  n", " clear",
+            " clear ", " renew", " renew ", " renew a ", " letter", " letter ", " letter a",
+            " letter -> a", " letter a -> ", " letter a -> b -> c", " quiet", " quiet a", " quiet  -> b",
+            " quiet a &  & b -> c", " tell", " tell ", " hand", " hand ", " hand d ", " hand  d",
         ]
         for row in below:
             self.check("prime 5\nstart\n" + row, 3, "row")
@@ -202,21 +227,32 @@ class Reading(unittest.TestCase):
 
     def test_contents(self):
         for row, why in [
-            ("device d holds x y", "form"), ("device d holds  a", "form"), ("device d holds a ", "form"), ("device d holds a, B", "form"), ("device d holds a,b", "form"), ("device d holds 0*a", "form"),
-            ("device d holds a out m", "form"), ("lock w salt 01 length 1 of 1", "number"), ("lock w salt x length 1 of 1", "number"), ("lock w salt 1 length 12345 of 1", "number"),
-            ("lock w salt -1 length 1 of 1", "number"), ("lock w salt 1 length 1 of 1 00", "number"), ("lock w salt 1 length 1 of 1 1.0", "number"), ("standing a & B -> c", "form"), ("standing a & -> b", "form"), ("standing a -> b & c", "form"),
-            ("standing a -> B", "form"), ("standing a&b -> c", "form"), ("road s by M", "formula"), ("road s by  ", "formula"), ("road s by 2(a)", "formula"), ("road s by never x", "formula"), ("promise s by d when", "formula"),
-            ("promise s by M", "formula"), ("promise s by d when M", "formula"), ("promise s by  ", "formula"), ("promise s by d when  ", "formula"), ("promise s by D when M", "formula"), ("promise s by d when m when n", "formula"),
+            ("device d holds x y", "form"), ("device d holds  a", "form"), ("device d holds a ", "form"),
+            ("device d holds a, B", "form"), ("device d holds a,b", "form"), ("device d holds 0*a", "form"),
+            ("device d holds a out m", "form"), ("lock w salt 01 length 1 of 1", "number"),
+            ("lock w salt x length 1 of 1", "number"), ("lock w salt 1 length 12345 of 1", "number"),
+            ("lock w salt -1 length 1 of 1", "number"), ("lock w salt 1 length 1 of 1 00", "number"),
+            ("lock w salt 1 length 1 of 1 1.0", "number"), ("standing a & B -> c", "form"),
+            ("standing a & -> b", "form"), ("standing a -> b & c", "form"),
+            ("standing a -> B", "form"), ("standing a&b -> c", "form"), ("road s by M", "formula"),
+            ("road s by  ", "formula"), ("road s by 2(a)", "formula"), ("road s by never x", "formula"),
+            ("promise s by d when", "formula"),
+            ("promise s by M", "formula"), ("promise s by d when M", "formula"), ("promise s by  ", "formula"),
+            ("promise s by d when  ", "formula"), ("promise s by D when M", "formula"),
+            ("promise s by d when m when n", "formula"),
         ]:
             self.check("prime 5\n" + row, 2, why)
-        for row, why in [(" when M", "formula"), (" when  ", "formula"), (" unless 1(", "formula"), (" letter a -> B", "form"), (" quiet  a -> b", "form"), (" tell A", "form"), (" tell  ", "form"), (" tell a & b", "form")]:
+        for row, why in [(" when M", "formula"), (" when  ", "formula"), (" unless 1(", "formula"),
+            (" letter a -> B", "form"), (" quiet  a -> b", "form"), (" tell A", "form"), (" tell  ", "form"),
+            (" tell a & b", "form")]:
             self.check("prime 5\nstart\n" + row, 3, why)
         for word in ["05", "x", "-5", "5.", "12345", "+5", "5a"]:
             self.check("prime " + word, 1, "number")
 
     def test_two_faults_in_a_row(self):
         for row, why in [
-            ("device d holds A, , b", "row"), ("lock w salt x length y of z ", "row"), ("standing A -> ", "row"), ("standing A -> b -> c", "row"), ("road s by ", "row"), ("promise s by M when ", "row"),
+            ("device d holds A, , b", "row"), ("lock w salt x length y of z ", "row"), ("standing A -> ", "row"),
+            ("standing A -> b -> c", "row"), ("road s by ", "row"), ("promise s by M when ", "row"),
         ]:
             self.check("prime 5\n" + row, 2, why)
         self.check("prime 5\npromise s by d\nlock w salt x", 3, "order")
@@ -242,12 +278,18 @@ class Reading(unittest.TestCase):
 
     def test_what_the_plan_refuses_comes_last(self):
         for text, error, told in [
-            ("prime 5\nmarks M\nstart", BadName, {"name": "M"}), ("prime 5\nmarks m m\nstart", TwiceNamed, {"name": "m"}), ("prime 5\nstart\n when m", BadStart, {}),
-            ("prime 5\nmarks m\nstart\n clear m", BadStart, {}), ("prime 5\nstart\n hand d", BadStart, {}), ("prime 5\nstart\n renew s\n tell x", UnknownName, {"name": "x"}),
-            ("prime 5\nlock w salt 5 length 1 of 1\nstart\n renew w", BadLock, {"slot": "w"}), ("prime 5\nlock w salt 0 length 121 of 1\nstart\n renew w", BadLock, {"slot": "w"}),
-            ("prime 5\nlock w salt 0 length 1 of 1 1\nstart\n renew w", BadLock, {"slot": "w"}), ("prime 5\nlock w salt 0 length 1 of 1\nroad w never\nstart\n renew w", LockMisused, {"name": "w"}),
-            ("prime 5\nstart\n renew s\n tell s~", OldMisused, {"name": "s~"}), ("prime 5\nstart\n renew s\n letter s & s & s & s & s -> s", TooBig, {"what": "needs"}),
-            ("prime 5\nstart\ndeed X", BadName, {"name": "X"}), ("prime 5\ndevice D\nstart", BadName, {"name": "D"}), ("prime 5\nstart\n renew S", BadName, {"name": "S"}),
+            ("prime 5\nmarks M\nstart", BadName, {"name": "M"}),
+            ("prime 5\nmarks m m\nstart", TwiceNamed, {"name": "m"}), ("prime 5\nstart\n when m", BadStart, {}),
+            ("prime 5\nmarks m\nstart\n clear m", BadStart, {}), ("prime 5\nstart\n hand d", BadStart, {}),
+            ("prime 5\nstart\n renew s\n tell x", UnknownName, {"name": "x"}),
+            ("prime 5\nlock w salt 5 length 1 of 1\nstart\n renew w", BadLock, {"slot": "w"}),
+            ("prime 5\nlock w salt 0 length 121 of 1\nstart\n renew w", BadLock, {"slot": "w"}),
+            ("prime 5\nlock w salt 0 length 1 of 1 1\nstart\n renew w", BadLock, {"slot": "w"}),
+            ("prime 5\nlock w salt 0 length 1 of 1\nroad w never\nstart\n renew w", LockMisused, {"name": "w"}),
+            ("prime 5\nstart\n renew s\n tell s~", OldMisused, {"name": "s~"}),
+            ("prime 5\nstart\n renew s\n letter s & s & s & s & s -> s", TooBig, {"what": "needs"}),
+            ("prime 5\nstart\ndeed X", BadName, {"name": "X"}), ("prime 5\ndevice D\nstart", BadName, {"name": "D"}),
+            ("prime 5\nstart\n renew S", BadName, {"name": "S"}),
         ]:
             check_raises(self, error, told, lambda: read_plan(text))
         self.check("prime 5\nmarks M M\nstart\n tell A", 4, "form")

@@ -81,7 +81,8 @@ class Robbing(unittest.TestCase):
 
     def test_tells_standing_letters_and_letters(self):
         plan = Plan(
-            5, start=Deed("start", renews=["k", "s", "t"], tells=[e("k")], letters=[((e("k"), e("s")), e("t"), True)]), standing=[((e("k"),), e("s"))],
+            5, start=Deed("start", renews=["k", "s", "t"], tells=[e("k")],
+                letters=[((e("k"), e("s")), e("t"), True)]), standing=[((e("k"),), e("s"))],
         )
         machine = Machine(plan, Tables.plain(5), [3, 1, 4])
         # The sources are the standing letter, the tell, and the letter.
@@ -95,9 +96,11 @@ class Robbing(unittest.TestCase):
         # The sources: the row to k.a, the letter to the lock, its guess.
         guess, key = (2, ()), (1, (((0, 1),),))
         cost = trial_steps(3, 2)
-        tried = [stretch(5, machine.tables.up, machine.tables.down, password=x, salt=1, length=3) for x in [0, 1, 2, 3]].index(machine.number_of("w.a")) + 1
+        tried = [stretch(5, machine.tables.up, machine.tables.down, password=x, salt=1, length=3) for x in [0, 1, 2,
+            3]].index(machine.number_of("w.a")) + 1
         for steps, last, number in [
-            ((guess, key), ((1, 1),), 2), ((guess, guess, key), ((2, 1),), 2), ((guess, guess), ((0, 2), (1, 3)), 0), ((guess,), (), 0),
+            ((guess, key), ((1, 1),), 2), ((guess, guess, key), ((2, 1),), 2), ((guess, guess), ((0, 2), (1, 3)), 0),
+            ((guess,), (), 0),
             ((guess, key, (0, (((1, 1),),))), ((2, 1),), 3),
         ]:
             self.assertEqual(rob(machine, steps, last, guessed=["w.a"], cells=2), (number, tried * cost))
@@ -132,7 +135,8 @@ class Robbing(unittest.TestCase):
     def test_a_guess_with_other_needs_on_both_sides(self):
         chance = random.Random(294)
         plan = Plan(
-            5, start=Deed("start", renews=["k", "j", "w", "s"], tells=[e("k"), e("j")], letters=[((e("j"), e("w"), e("k")), (), True)]),
+            5, start=Deed("start", renews=["k", "j", "w", "s"], tells=[e("k"), e("j")],
+                letters=[((e("j"), e("w"), e("k")), (), True)]),
             locks=[("w", 1, 2, (3, 1, 4, 0))], roads=[("s", None)],
         )
         rules = [rule for _, _, rule in sources(plan, (), guessed=["w"])]
@@ -148,7 +152,8 @@ class Robbing(unittest.TestCase):
         plans = [tiny_plan(chance, chance.choice([1, 2, 2])) for _ in range(300)]
         for _ in range(60):
             devices = list("abc")[:chance.randint(1, 3)]
-            locks = [(d, chance.randrange(2), chance.choice([1, 2, 3]), tuple(chance.sample(range(7), chance.randint(1, 4)))) for d in devices]
+            locks = [(d, chance.randrange(2), chance.choice([1, 2, 3]),
+                tuple(chance.sample(range(7), chance.randint(1, 4)))) for d in devices]
             plans.append(lock_house(7, devices, random_formula(chance, devices, 2), locks))
         for plan in plans:
             cells = chance.randint(1, 3)
@@ -169,7 +174,8 @@ class Robbing(unittest.TestCase):
                 self.assertEqual(number, machine.number_of(secret))
                 self.assertLessEqual(made, cost)
                 differ = all(
-                    len({stretch(plan.p, tables.up, tables.down, password=x, salt=salt, length=length) for x in candidates}) == len(candidates)
+                    len({stretch(plan.p, tables.up, tables.down, password=x, salt=salt,
+                        length=length) for x in candidates}) == len(candidates)
                     for slot, salt, length, candidates in plan.locks if slot in chosen
                 )
                 if last_ones and differ:
@@ -183,10 +189,13 @@ class Robbing(unittest.TestCase):
         guess, key = (2, ()), (1, (((0, 1),),))
         for steps, last, guessed, at in [
             ((guess, key), ((1, 1),), [], 0), ((guess, (3, ())), (), ["w.a"], 1), ((guess, (1, ())), (), ["w.a"], 1),
-            ((guess, (1, (((0, 2),),))), (), ["w.a"], 1), ((guess, (1, (((1, 1),),))), (), ["w.a"], 1), ((key,), (), ["w.a"], 0),
+            ((guess, (1, (((0, 2),),))), (), ["w.a"], 1), ((guess, (1, (((1, 1),),))), (), ["w.a"], 1),
+            ((key,), (), ["w.a"], 0),
             ((guess, key), ((2, 1),), ["w.a"], 2), ((guess, key), ((1, 0),), ["w.a"], 2), ((guess, key), ((1, 5),), ["w.a"], 2),
-            ((guess, key), ((1, 1), (0, 1)), ["w.a"], 2), ((guess, key), ((1, 1), (1, 1)), ["w.a"], 2), ((), ((0, 1),), ["w.a"], 0),
-            ((guess, key), ((1, True),), ["w.a"], 2), ((guess, key), ((-1, 1),), ["w.a"], 2), ((guess, (1, (((0, 1),), ()))), (), ["w.a"], 1),
+            ((guess, key), ((1, 1), (0, 1)), ["w.a"], 2), ((guess, key), ((1, 1), (1, 1)), ["w.a"], 2),
+            ((), ((0, 1),), ["w.a"], 0),
+            ((guess, key), ((1, True),), ["w.a"], 2), ((guess, key), ((-1, 1),), ["w.a"], 2),
+            ((guess, (1, (((0, 1),), ()))), (), ["w.a"], 1),
         ]:
             check_raises(self, BadStep, {"at": at}, lambda: rob(machine, steps, last, guessed=guessed, cells=1))
 
@@ -194,7 +203,8 @@ class Robbing(unittest.TestCase):
         plan = lock_house(5, ["a"], "a", [("a", 1, 3, (0, 1, 2, 3))])
         machine = Machine(plan, Tables.plain(5), [2, 3, 2])
         for name in NO_LOCKS:
-            check_raises(self, UnknownName, {"name": name}, lambda: rob(machine, ((9, ()),), (), guessed=["w.a", name], cells=0))
+            check_raises(self, UnknownName, {"name": name},
+                lambda: rob(machine, ((9, ()),), (), guessed=["w.a", name], cells=0))
         for cells in BAD_CELLS:
             check_raises(self, BadCells, {"cells": cells}, lambda: rob(machine, ((9, ()),), (), guessed=["w.a"], cells=cells))
 
@@ -222,7 +232,8 @@ class Friends(unittest.TestCase):
         # Whether the devices are in is not asked.
         self.assertEqual(friend_number(machine, ["b", "a"], "s"), 4)
         machine.do("mend")
-        self.assertEqual((friend_number(machine, ["a", "b"], "s"), friend_number(machine, ["a"], "k.a"), friend_number(machine, ["b"], "k.b")), (4, 0, 3))
+        self.assertEqual((friend_number(machine, ["a", "b"], "s"), friend_number(machine, ["a"], "k.a"),
+            friend_number(machine, ["b"], "k.b")), (4, 0, 3))
 
     def test_refusals(self):
         machine = Machine(mend_house(5, ["a", "b"], TWO), Tables.plain(5), [1, 2, 3, 4])

@@ -43,7 +43,8 @@ def tiny_deed(chance, p, name, marks, slots, plain, lock):
     return Deed(
         name, when=marks_formula(chance, marks, 0.4), unless=marks_formula(chance, marks, 0.5), sets=sets,
         clears=some_of(chance, [mark for mark in marks if mark not in sets]), renews=renews,
-        letters=letters(chance, p, names, lock, 2), tells=[need(chance, p, names) for _ in range(chance.choice([0, 0, 0, 1, 1, 2]))],
+        letters=letters(chance, p, names, lock, 2),
+        tells=[need(chance, p, names) for _ in range(chance.choice([0, 0, 0, 1, 1, 2]))],
     )
 
 
@@ -71,11 +72,13 @@ def tiny_plan(chance, locks=0):
             "start", sets=some_of(chance, marks, 0.3), renews=slots, letters=letters(chance, p, plain, lock, 3),
             tells=[need(chance, p, plain) for _ in range(chance.choice([0] * 9 + [1]))],
         ),
-        locks=[(slot, chance.randrange(p), chance.randint(1, 3), chance.sample(range(p), chance.randint(1, p))) for slot in lock_slots],
+        locks=[(slot, chance.randrange(p), chance.randint(1, 3),
+            chance.sample(range(p), chance.randint(1, p))) for slot in lock_slots],
         standing=[(needs, gives) for needs, gives, _ in letters(chance, p, plain, None, 1)],
         roads=[(slot, marks_formula(chance, marks, 0.5)) for slot in chance.sample(plain, chance.randint(0, len(plain)))],
         promises=[
-            (chance.choice(plain), random_formula(chance, [name for name, _, _ in devices], 1), marks_formula(chance, marks, 0.5))
+            (chance.choice(plain), random_formula(chance, [name for name, _, _ in devices], 1),
+                marks_formula(chance, marks, 0.5))
             for _ in range(chance.randint(0, 2)) if devices
         ],
     )
