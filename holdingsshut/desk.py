@@ -11,17 +11,13 @@ from holdingsshut.search import heals, judge, price
 from holdingsshut.sheets import read_plan
 from holdingsshut.sources import present_part
 
-MOST_LIMIT = 400
-MOST_CELLS = 120
-MOST_LENGTH = 120
-# Stands for a word that is no number.
-WORD = 0
-# By the first word: what the words behind it are, and whether more words may follow.
-# A number stands for a number from 1 to it.
+# The numbers that a question may ask with are at least 1 and at most these.
+MOST = {"limit": 400, "cells": 120, "length": 120}
+# By the first word: which words are due behind it (a name is no number), and whether more may follow.
 SHAPES = {
-    "judge": ((MOST_LIMIT,), True), "friends": ((MOST_LIMIT,), False), "price": ((MOST_CELLS, MOST_LIMIT), False),
-    "heals": ((WORD, MOST_LIMIT), False), "audit": ((), True), "blame": ((WORD,), True), "exposed": ((), True),
-    "present": ((), True), "steps": ((MOST_LENGTH, MOST_CELLS), False),
+    "judge": (("limit",), True), "friends": (("limit",), False), "price": (("cells", "limit"), False),
+    "heals": (("name", "limit"), False), "audit": ((), True), "blame": (("name",), True), "exposed": ((), True),
+    "present": ((), True), "steps": (("length", "cells"), False),
 }
 LOTS = "lots "
 
@@ -59,11 +55,12 @@ def _has_shape(words):
     told = words[1:]
     if len(told) < len(due) or (len(told) > len(due) and not more):
         return False
-    return all([most == WORD or _is_number(word, most) for word, most in zip(told, due)])
+    return all([_is_due(kind, word) for kind, word in zip(due, told)])
 
 
-def _is_number(word, most):
-    return is_count(word, 4) and int(word) <= most
+def _is_due(kind, word):
+    """True if the word may stand where one of this kind is due."""
+    return kind not in MOST or (is_count(word, 4) and int(word) <= MOST[kind])
 
 
 def _answered(plan, word, told):
